@@ -1,0 +1,50 @@
+import doctest
+import os
+import unittest
+
+from outsigns.closings import Closing, open_net
+from outsigns.faults import first_fault, is_good
+from outsigns.nets import Net
+from outsigns.signs import Signs
+from outsigns.walking import missed, walk, walk_nodes
+
+
+class ExamplesTest(unittest.TestCase):
+    """The examples of the document."""
+
+    def test_overview(self):
+        ring = Net.ring("a", "b", "c", "d")
+        rows = {"a": ["b", "c", "d"], "b": ["c", "a"], "c": ["d", "a", "b"], "d": ["a", "c"]}
+        self.assertTrue(is_good(Signs(ring + ("a", "c"), rows)))
+        knot = Signs(ring + ("a", "c") + ("b", "d"))
+        self.assertFalse(is_good(knot))
+        self.assertIsNotNone(first_fault(knot))
+        closing = Closing.of(("b", "d"))
+        self.assertEqual(list(walk_nodes(knot, closing, "c", 7)), ["c", "a", "d", "c", "a", "d", "c"])
+
+    def test_closings(self):
+        net = Net.ring("a", "b", "c", "d") + ("c", "a")
+        self.assertEqual([net.links(), net.neighbours("a"), net.drawn_together(("b", "a")).links()], [
+            [("a", "b"), ("a", "c"), ("a", "d"), ("b", "c"), ("c", "d")], ["b", "c", "d"],
+            [("a", "c"), ("a", "d"), ("c", "d")]])
+        closing = Closing.of(("d", "a"), ("c", "d"))
+        self.assertEqual([str(closing), closing.at("d"), open_net(net, closing).pieces(), Closing() < closing],
+                         ["a-d c-d", ["a", "c"], [["a", "b", "c"], ["d"]], True])
+
+    def test_walking(self):
+        signs = Signs(Net.full("a", "b", "c", "d"))
+        closing = Closing.of(("b", "d"))
+        self.assertEqual([walk(signs, closing, "c"), missed(signs, closing, "c"), signs["c", ["a"], "d"]],
+                         [(["c"], ["a", "d", "c"]), ["b"], "b"])
+
+    def test_readme(self):
+        path = os.path.join(os.path.dirname(os.path.dirname(os.path.abspath(__file__))), "README.md")
+        with open(path, encoding="utf-8") as file:
+            text = file.read().replace("```", "")
+        examples = doctest.DocTestParser().get_doctest(text, {}, "README", path, 0)
+        self.assertGreater(len(examples.examples), 10)
+        self.assertEqual(doctest.DocTestRunner().run(examples).failed, 0)
+
+
+if __name__ == "__main__":
+    unittest.main()
