@@ -2,7 +2,6 @@
 
 from outsigns.errors import InvalidName
 
-LETTERS = "abcdefghijklmnopqrstuvwxyz"
 LONGEST_NAME = 8
 
 
@@ -18,9 +17,9 @@ def is_count(value):
 
 def is_name(value):
     """Whether a value is a NAME."""
-    if not isinstance(value, str) or not 1 <= len(value) <= LONGEST_NAME:
+    if not isinstance(value, str) or len(value) > LONGEST_NAME:
         return False
-    return all([sign in LETTERS for sign in value])
+    return value.isascii() and value.isalpha() and value.islower()
 
 
 def is_link(value):
@@ -30,10 +29,15 @@ def is_link(value):
     return is_name(value[0]) and is_name(value[1]) and value[0] != value[1]
 
 
+def ordered_pair(one, other):
+    """The tuple of two names, the lesser one first."""
+    return (one, other) if one < other else (other, one)
+
+
 def link_of(one, other):
     """The link between two nodes, as it is returned: the lesser name first."""
     if not is_name(one):
         raise InvalidName(one)
     if not is_name(other) or one == other:
         raise InvalidName(other)
-    return (one, other) if one < other else (other, one)
+    return ordered_pair(one, other)

@@ -1,6 +1,6 @@
 """Checks of lists that are passed."""
 
-from outsigns.basics import is_link, is_name, link_of
+from outsigns.basics import is_link, is_name, ordered_pair
 from outsigns.errors import InvalidLinks, InvalidNodes
 from outsigns.sorting import sorted_links
 
@@ -16,7 +16,7 @@ def is_choice(value, names):
         return False
     seen = {}
     for name in value:
-        if not is_name(name) or name not in names or name in seen:
+        if not isinstance(name, str) or name not in names or name in seen:
             return False
         seen[name] = True
     return True
@@ -33,22 +33,27 @@ def check_nodes(nodes):
         seen[node] = True
 
 
-def joins_known(link, nodes):
-    """Whether a value is a link, and of these nodes, unless they are None."""
-    if not is_link(link):
+def is_link_of(value, names):
+    """Whether a value is a link of these names, the keys of a dict, or (None) of any NAMES."""
+    if names is None:
+        return is_link(value)
+    if not isinstance(value, tuple) or len(value) != 2:
         return False
-    return nodes is None or (link[0] in nodes and link[1] in nodes)
+    one, other = value
+    if not isinstance(one, str) or not isinstance(other, str) or one == other:
+        return False
+    return one in names and other in names
 
 
-def checked_links(links, nodes):
-    """The sorted list of these different links, of these nodes or (None) of any; else InvalidLinks."""
+def checked_links(links, names):
+    """The sorted list of these different links, of these names, keys of a dict, or (None) of any; else InvalidLinks."""
     if not is_list(links):
         raise InvalidLinks(None)
     seen = {}
     for position, link in enumerate(links):
-        if not joins_known(link, nodes):
+        if not is_link_of(link, names):
             raise InvalidLinks(position)
-        pair = link_of(link[0], link[1])
+        pair = ordered_pair(link[0], link[1])
         if pair in seen:
             raise InvalidLinks(position)
         seen[pair] = True

@@ -1,10 +1,10 @@
 """Closings, open nets, and nets whose closing changes."""
 
-from outsigns.basics import is_link, is_name, link_of
+from outsigns.basics import is_link, is_name, ordered_pair
 from outsigns.checks import checked_links
 from outsigns.errors import InvalidClosing, InvalidName, LinkTaken, TooMany, UnknownLink
-from outsigns.nets import Net, need_link, need_net
-from outsigns.sorting import sorted_names
+from outsigns.nets import Net, made_net, need_link, need_links, need_net
+from outsigns.sorting import sorted_links
 
 
 class Closing:
@@ -12,10 +12,11 @@ class Closing:
 
     def __init__(self, links=()):
         kept = checked_links(links, None)
-        if len(kept) > Net.MOST_LINKS:
-            raise TooMany("links", Net.MOST_LINKS)
+        need_few(kept)
         self._links = kept
         self._place = (len(kept), kept)
+        self._closed = {link: True for link in kept}
+        self._ends = None
 
     @staticmethod
     def of(*links):
@@ -26,7 +27,7 @@ class Closing:
     def all_of(net):
         """The closing of all links of a net."""
         need_net(net)
-        return Closing(net.links())
+        return made_closing(net.links())
 
     def links(self):
         """The sorted list of the links."""
@@ -36,23 +37,31 @@ class Closing:
         """The sorted list of the nodes to which the links lead from this one."""
         if not is_name(node):
             raise InvalidName(node)
-        return sorted_names([other if one == node else one for one, other in self._links if node in (one, other)])
+        # Of sorted links, those from a lesser node come ahead of those to a greater one: the list comes out sorted.
+        return [other if one == node else one for one, other in self._links if node in (one, other)]
+
+    def ends(self):
+        """A dict, which nobody changes, from the nodes with links here to the sorted tuples of where these lead."""
+        # Kept, since walks at one closing are asked from many starts.
+        if self._ends is None:
+            self._ends = ends_of(self._links)
+        return self._ends
 
     def __or__(self, other):
         need_some_closing(other)
-        more = [link for link in other._links if link not in self._links]
-        return Closing([*self._links, *more])
+        more = [link for link in other._links if link not in self._closed]
+        return made_closing(sorted_links([*self._links, *more]))
 
     def __and__(self, other):
         need_some_closing(other)
-        return Closing([link for link in self._links if link in other._links])
+        return made_closing([link for link in self._links if link in other._closed])
 
     def __sub__(self, other):
         need_some_closing(other)
-        return Closing([link for link in self._links if link not in other._links])
+        return made_closing([link for link in self._links if link not in other._closed])
 
     def __contains__(self, x):
-        return is_link(x) and link_of(x[0], x[1]) in self._links
+        return is_link(x) and ordered_pair(x[0], x[1]) in self._closed
 
     def __len__(self):
         return len(self._links)
@@ -89,6 +98,31 @@ class Closing:
         return f"Closing({self._links!r})"
 
 
+def ends_of(links):
+    """A dict from the nodes of sorted links to the sorted tuples of the nodes to which these lead."""
+    found = {}
+    for one, other in links:
+        found.setdefault(one, []).append(other)
+        found.setdefault(other, []).append(one)
+    return {node: tuple(found[node]) for node in found}
+
+
+def need_few(links):
+    """Raise TooMany if there are too many links for a closing."""
+    if len(links) > Net.MOST_LINKS:
+        raise TooMany("links", Net.MOST_LINKS)
+
+
+def made_closing(links):
+    """The closing of links that surely are right, a sorted list that nobody changes; else (too many) TooMany."""
+    need_few(links)
+    made = Closing()
+    made._links = links
+    made._place = (len(links), links)
+    made._closed = {link: True for link in links}
+    return made
+
+
 def need_some_closing(closing):
     """Raise InvalidClosing unless a value is a Closing."""
     if not isinstance(closing, Closing):
@@ -98,15 +132,14 @@ def need_some_closing(closing):
 def need_closing(closing, net):
     """Raise an error unless a value is a Closing of links of a net."""
     need_some_closing(closing)
-    for link in closing.links():
-        need_link(net, link)
+    need_links(net, closing._links)
 
 
 def open_net(net, closing):
     """The net of all nodes and the open links."""
     need_net(net)
     need_closing(closing, net)
-    return Net(net.nodes(), [link for link in net.links() if link not in closing])
+    return made_net(net.nodes(), [link for link in net.links() if link not in closing._closed])
 
 
 class Site:

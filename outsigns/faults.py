@@ -1,13 +1,14 @@
 """Faults of signs at all closings, unused entries, and where signs do not turn."""
 
-from outsigns.basics import link_of
+from outsigns.basics import ordered_pair
 from outsigns.checks import is_choice
-from outsigns.closings import Closing
+from outsigns.closings import made_closing
 from outsigns.errors import InvalidNeighbours, TooMany
+from outsigns.meeting import bits_of, misses_by
 from outsigns.nets import need_net, need_node
 from outsigns.signs import names_left, need_signs
-from outsigns.sorting import parts_in_order
-from outsigns.walking import closed_table, lead_and_loop, misses_at
+from outsigns.sorting import parts_of_size
+from outsigns.walking import misses_at
 
 MOST_SEARCHED = 10
 
@@ -18,21 +19,75 @@ def need_few_links(net):
         raise TooMany("links", MOST_SEARCHED)
 
 
+def need_search(signs):
+    """Raise an error unless a value is Signs of a net with few links."""
+    need_signs(signs)
+    need_few_links(signs.net)
+
+
 def all_closings(net):
     """Yield all closings of links of a net, in order."""
     need_net(net)
     need_few_links(net)
-    for links in parts_in_order(net.links()):
-        yield Closing(links)
+    links = net.links()
+    for many in range(len(links) + 1):
+        for part in parts_of_size(links, many):
+            yield made_closing(list(part))
+
+
+class Search:
+    """The goings of signs at all closings of links of their net, at most ten.
+
+    Sets of links are integers, sums of the bits of their links.
+    """
+
+    def __init__(self, signs):
+        net = signs.net
+        self._node_bits = bits_of(net.nodes())
+        self._link_bits = bits_of(net.links())
+        self._near_bits = {}
+        self._tables = {}
+        for node in net.nodes():
+            table = signs.goings_by_closed(node)
+            self._near_bits[node] = self.set_of_links(node, net.neighbours(node))
+            self._tables[node] = {self.set_of_links(node, closed): table[closed] for closed in table}
+
+    def sets_of_links(self, many):
+        """The list of all sets of so many links, in order of their sorted lists."""
+        return [sum(part) for part in parts_of_size(list(self._link_bits.values()), many)]
+
+    def closing_of(self, closed):
+        """The closing of a set of links."""
+        return made_closing([link for link in self._link_bits if closed & self._link_bits[link]])
+
+    def set_of_links(self, node, names):
+        """The set of the links from a node to some of its neighbours."""
+        return sum([self._link_bits[ordered_pair(node, name)] for name in names])
+
+    def closed_at(self, node, closed):
+        """Those links of a node that are in a set of links."""
+        return closed & self._near_bits[node]
+
+    def goings_behind(self, closed):
+        """The goings at the closing of a set of links."""
+        return {node: self._tables[node][closed & self._near_bits[node]] for node in self._tables}
+
+    def misses_behind(self, closed):
+        """The tuples (start, missed) of all starts, sorted, that miss a node at the closing of a set of links."""
+        return misses_by(self.goings_behind(closed), self._node_bits, list(self._link_bits))
 
 
 def faults(signs):
     """Yield all faults of signs, in order."""
-    need_signs(signs)
-    net = signs.net
-    for closing in all_closings(net):
-        for start, nodes in misses_at(signs, closing):
-            yield (closing, start, nodes)
+    need_search(signs)
+    search = Search(signs)
+    for many in range(signs.net.size + 1):
+        for closed in search.sets_of_links(many):
+            wrong = search.misses_behind(closed)
+            if len(wrong) > 0:
+                closing = search.closing_of(closed)
+                for start, nodes in wrong:
+                    yield (closing, start, nodes)
 
 
 def first_fault(signs):
@@ -54,33 +109,39 @@ def fewest_closed(signs):
     return None if fault is None else len(fault[0])
 
 
-def arrivals(signs, closed, start):
-    """The list of the tuples (node, neighbour) of the arrivals of a walk, by a table of closed neighbours."""
-    lead, loop = lead_and_loop(signs, closed, start)
-    nodes = [*lead, *loop]
-    return [(nodes[at], nodes[at - 1]) for at in range(1, len(nodes))]
+def arrivals(goings):
+    """A dict with the tuples (node, neighbour) of the arrivals of all walks."""
+    seen = {}
+    for start in goings:
+        arriving = start
+        here = goings[start][None]
+        while here is not None and (here, arriving) not in seen:
+            seen[(here, arriving)] = True
+            going = goings[here][arriving]
+            arriving = here
+            here = going
+    return seen
 
 
-def used_entries(signs):
-    """A dict with the tuples (node, closed, arriving) that a walk asks at some closing, arriving not None."""
-    net = signs.net
+def used_entries(signs, search):
+    """A dict with the tuples (node, its closed links, arriving) that a walk asks at some closing, arriving not None."""
     used = {}
-    for closing in all_closings(net):
-        closed = closed_table(net, closing)
-        for start in net.nodes():
-            for node, arriving in arrivals(signs, closed, start):
-                used[(node, closed[node], arriving)] = True
+    for many in range(signs.net.size + 1):
+        for closed in search.sets_of_links(many):
+            for node, arriving in arrivals(search.goings_behind(closed)):
+                used[(node, search.closed_at(node, closed), arriving)] = True
     return used
 
 
 def unused(signs):
     """The list of the tuples (node, closed, arriving) of the entries that no walk asks."""
-    need_signs(signs)
-    used = used_entries(signs)
+    need_search(signs)
+    search = Search(signs)
+    used = used_entries(signs, search)
     found = []
     for node in signs.net.nodes():
         for closed, arriving, _ in signs.entries(node):
-            if arriving is not None and (node, closed, arriving) not in used:
+            if arriving is not None and (node, search.set_of_links(node, closed), arriving) not in used:
                 found.append((node, closed, arriving))
     return found
 
@@ -88,13 +149,7 @@ def unused(signs):
 def not_turning(signs):
     """The list of the tuples (node, closed) where signs do not turn."""
     need_signs(signs)
-    found = []
-    for node in signs.net.nodes():
-        names = signs.net.neighbours(node)
-        for closed in parts_in_order(names):
-            if len(closed) + 2 <= len(names) and not signs.turns(node, closed):
-                found.append((node, tuple(closed)))
-    return found
+    return [(node, closed) for node in signs.net.nodes() for closed in signs.not_turning_at(node)]
 
 
 def star(net, node, neighbours):
@@ -103,16 +158,16 @@ def star(net, node, neighbours):
     need_node(net, node)
     if not is_choice(neighbours, net.neighbours(node)):
         raise InvalidNeighbours(neighbours)
-    kept = [link_of(node, name) for name in neighbours]
-    return Closing([link for link in net.links() if link not in kept])
+    kept = {ordered_pair(node, name): True for name in neighbours}
+    return made_closing([link for link in net.links() if link not in kept])
 
 
 def star_fault(signs):
     """The first fault at the star where signs first do not turn; None if they turn everywhere."""
-    wrong = not_turning(signs)
-    if len(wrong) == 0:
-        return None
-    node, closed = wrong[0]
-    closing = star(signs.net, node, names_left(signs.net, node, closed))
-    start, nodes = misses_at(signs, closing)[0]
-    return (closing, start, nodes)
+    need_signs(signs)
+    for node in signs.net.nodes():
+        for closed in signs.not_turning_at(node):
+            closing = star(signs.net, node, names_left(signs.net, node, closed))
+            start, nodes = misses_at(signs, closing)[0]
+            return (closing, start, nodes)
+    return None

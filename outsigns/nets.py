@@ -1,10 +1,10 @@
 """Nets of nodes and links."""
 
-from outsigns.basics import is_link, is_name, link_of
-from outsigns.checks import check_nodes, checked_links
+from outsigns.basics import is_name, ordered_pair
+from outsigns.checks import check_nodes, checked_links, is_link_of
 from outsigns.errors import InvalidLink, InvalidLinks, InvalidName, InvalidNet, InvalidNodes
 from outsigns.errors import LinkTaken, NameTaken, NobodyLeft, TooMany, UnknownLink, UnknownNode
-from outsigns.sorting import sorted_names
+from outsigns.sorting import sorted_links, sorted_names
 
 
 def neighbour_table(nodes, links):
@@ -32,6 +32,20 @@ def joined_to(table, node):
     return sorted_names(list(found))
 
 
+def links_within(links, nodes):
+    """Those of some links that join two of these nodes."""
+    kept = {node: True for node in nodes}
+    return [(one, other) for one, other in links if one in kept and other in kept]
+
+
+def need_room(nodes, links):
+    """Raise TooMany if there are too many nodes or links for a net."""
+    if len(nodes) > Net.MOST_NODES:
+        raise TooMany("nodes", Net.MOST_NODES)
+    if len(links) > Net.MOST_LINKS:
+        raise TooMany("links", Net.MOST_LINKS)
+
+
 def links_along(nodes):
     """The links between nodes that follow each other."""
     return [(nodes[at], nodes[at + 1]) for at in range(len(nodes) - 1)]
@@ -45,13 +59,11 @@ class Net:
 
     def __init__(self, nodes, links=()):
         check_nodes(nodes)
-        kept = checked_links(links, nodes)
-        if len(nodes) > Net.MOST_NODES:
-            raise TooMany("nodes", Net.MOST_NODES)
-        if len(kept) > Net.MOST_LINKS:
-            raise TooMany("links", Net.MOST_LINKS)
+        kept = checked_links(links, {node: True for node in nodes})
+        need_room(nodes, kept)
         self._nodes = sorted_names(nodes)
         self._links = kept
+        self._held = {link: True for link in kept}
         self._near = neighbour_table(self._nodes, kept)
 
     @staticmethod
@@ -64,7 +76,7 @@ class Net:
         for one, other in kept:
             nodes[one] = True
             nodes[other] = True
-        return Net(list(nodes), kept)
+        return made_net(sorted_names(list(nodes)), kept)
 
     @classmethod
     def path(cls, *nodes):
@@ -134,18 +146,18 @@ class Net:
         left = [node for node in self._nodes if node not in nodes]
         if len(left) == 0:
             raise NobodyLeft()
-        return Net(left, [(one, other) for one, other in self._links if one in left and other in left])
+        return made_net(left, links_within(self._links, left))
 
     def drawn_together(self, link):
         """The net in which the two nodes of a link have become one."""
         need_link(self, link)
-        kept, gone = link_of(link[0], link[1])
+        kept, gone = ordered_pair(link[0], link[1])
         fresh = {node: kept if node == gone else node for node in self._nodes}
         links = {}
         for one, other in self._links:
             if fresh[one] != fresh[other]:
-                links[link_of(fresh[one], fresh[other])] = True
-        return Net([node for node in self._nodes if node != gone], list(links))
+                links[ordered_pair(fresh[one], fresh[other])] = True
+        return made_net([node for node in self._nodes if node != gone], sorted_links(list(links)))
 
     def renamed(self, **names):
         """The net with other names for some nodes, all at once."""
@@ -159,50 +171,64 @@ class Net:
         for name in sorted_names(listed):
             if listed.count(name) > 1:
                 raise NameTaken(name)
-        return Net(listed, [(fresh[one], fresh[other]) for one, other in self._links])
+        links = [ordered_pair(fresh[one], fresh[other]) for one, other in self._links]
+        return made_net(sorted_names(listed), sorted_links(links))
 
     def __add__(self, other):
-        if not is_link(other) or other[0] not in self._near or other[1] not in self._near:
+        if not is_link_of(other, self._near):
             raise InvalidLink(other)
-        if other in self:
+        link = ordered_pair(other[0], other[1])
+        if link in self._held:
             raise LinkTaken(other)
-        return Net(self._nodes, [*self._links, other])
+        return made_net(self._nodes, sorted_links([*self._links, link]))
 
     def __sub__(self, other):
         need_link(self, other)
-        gone = link_of(other[0], other[1])
-        return Net(self._nodes, [link for link in self._links if link != gone])
+        gone = ordered_pair(other[0], other[1])
+        return made_net(self._nodes, [link for link in self._links if link != gone])
 
     def __or__(self, other):
         need_net(other)
         nodes = [node for node in other._nodes if node not in self._near]
-        links = [link for link in other._links if link not in self._links]
-        return Net([*self._nodes, *nodes], [*self._links, *links])
+        links = [link for link in other._links if link not in self._held]
+        return made_net(sorted_names([*self._nodes, *nodes]), sorted_links([*self._links, *links]))
 
     def __and__(self, other):
         need_net(other)
         nodes = [node for node in self._nodes if node in other._near]
         if len(nodes) == 0:
             raise NobodyLeft()
-        return Net(nodes, [link for link in self._links if link in other._links])
+        return made_net(nodes, [link for link in self._links if link in other._held])
 
     def is_part_of(self, other):
         """Whether another net has all nodes and links of this one."""
         need_net(other)
         if not all([node in other._near for node in self._nodes]):
             return False
-        return all([link in other._links for link in self._links])
+        return all([link in other._held for link in self._links])
 
     def __contains__(self, x):
-        if is_link(x):
-            return x[0] in self._near and x[1] in self._near[x[0]]
-        return is_name(x) and x in self._near
+        if isinstance(x, tuple):
+            return is_link_of(x, self._near) and ordered_pair(x[0], x[1]) in self._held
+        return isinstance(x, str) and x in self._near
 
     def __eq__(self, other):
         return isinstance(other, Net) and self._nodes == other._nodes and self._links == other._links
 
     def __repr__(self):
         return f"Net({self._nodes!r}, {self._links!r})"
+
+
+def made_net(nodes, links):
+    """The net of nodes and links that surely are right, sorted lists that nobody changes; else (too many) TooMany."""
+    need_room(nodes, links)
+    # The parts of another net are right: to check them all again would take most of the time.
+    made = Net(("a",))
+    made._nodes = nodes
+    made._links = links
+    made._held = {link: True for link in links}
+    made._near = neighbour_table(nodes, links)
+    return made
 
 
 def need_net(net):
@@ -213,7 +239,7 @@ def need_net(net):
 
 def is_node(net, value):
     """Whether a value is a node of a net."""
-    return is_name(value) and value in net
+    return isinstance(value, str) and value in net._near
 
 
 def need_node(net, node):
@@ -224,5 +250,12 @@ def need_node(net, node):
 
 def need_link(net, link):
     """Raise UnknownLink unless a value is a link of a net."""
-    if not is_link(link) or link not in net:
+    if not isinstance(link, tuple) or link not in net:
         raise UnknownLink(link)
+
+
+def need_links(net, links):
+    """Raise UnknownLink with the first of these links, each as it is returned, that a net does not have."""
+    for link in links:
+        if link not in net._held:
+            raise UnknownLink(link)

@@ -1,26 +1,48 @@
 """Signs: where to go on at each node, by its closed links and the link by which one arrives."""
 
-from outsigns.basics import is_name
 from outsigns.checks import is_choice
 from outsigns.errors import InvalidEntry, InvalidRow, InvalidSigns, OtherNet, TooMany
-from outsigns.nets import need_net, need_node
+from outsigns.nets import Net, need_net, need_node
 from outsigns.rowlists import is_row, rows_by_node
 from outsigns.sorting import parts_in_order, sorted_names
 
 
-def goings_of_row(row, closed):
-    """A dict from None, then the neighbours that are not closed, to where the row goes on from there."""
-    left = [name for name in row if name not in closed]
-    goings = {None: left[0] if len(left) > 0 else None}
-    for name in sorted_names(left):
-        goings[name] = left[(left.index(name) + 1) % len(left)]
-    return goings
+def goings_of_parts(row):
+    """The list of the goings of a row for each set of neighbours that are not closed.
+
+    Goings are a dict from None, then these neighbours, to where one goes on. Those for the neighbours at some positions
+    of the row stand at the sum of 1 << position.
+    """
+    found = [{None: None}]
+    lasts = [None]
+    for name in row:
+        # One neighbour more at the end: the last one so far leads to it, and it leads to the first one.
+        more = [{**goings, last: name, name: name if last is None else goings[None]}
+                for goings, last in zip(found, lasts)]
+        found = [*found, *more]
+        lasts = [*lasts, *[name for _ in lasts]]
+    return found
 
 
 def entries_of_row(row):
     """A dict from the sets of closed neighbours, in order, to the goings of the row there."""
-    parts = parts_in_order(sorted_names(row))
-    return {tuple(closed): goings_of_row(row, closed) for closed in parts}
+    names = sorted_names(row)
+    bits = [1 << row.index(name) for name in names]
+    goings = goings_of_parts(row)
+    # The last goings are those for all neighbours; the closed ones are taken off.
+    return {closed: goings[-1 - sum(part)] for closed, part in zip(parts_in_order(names), parts_in_order(bits))}
+
+
+def is_round(goings):
+    """Whether the goings lead from a neighbour that is not closed through all of them and back, as [32] says."""
+    # None is always the first key.
+    first = list(goings)[1]
+    here = goings[first]
+    steps = 1
+    while here is not None and here != first and steps < len(goings):
+        here = goings[here]
+        steps = steps + 1
+    return here == first and steps == len(goings) - 1
 
 
 def closed_key(net, node, closed):
@@ -32,7 +54,7 @@ def closed_key(net, node, closed):
 
 def need_open(value, names):
     """Raise InvalidEntry unless a value is None or one of the neighbours that are not closed."""
-    if value is not None and not (is_name(value) and value in names):
+    if value is not None and not (isinstance(value, str) and value in names):
         raise InvalidEntry(value)
 
 
@@ -71,9 +93,13 @@ class Signs:
         need_open(worth, names_left(self._net, node, closed))
         self._table[node][closed][arriving] = worth
 
-    def entry_at(self, node, closed, arriving):
-        """The entry, as by an index, for what surely is a node, a sorted tuple and a neighbour or None."""
-        return self._table[node][closed][arriving]
+    def goings_by_closed(self, node):
+        """A dict from the sets of closed neighbours of a node, in order, to its goings: dicts that nobody changes."""
+        return self._table[node]
+
+    def goings_at(self, closed):
+        """A dict from all nodes to their goings, dicts that nobody changes, by a dict of closed neighbours."""
+        return {node: self._table[node][closed.get(node, ())] for node in self._table}
 
     def set_row(self, node, row):
         """Make all entries of a node those of a row."""
@@ -85,30 +111,30 @@ class Signs:
     def entries(self, node):
         """Yield all entries of a node as tuples (closed, arriving, going)."""
         need_node(self._net, node)
+        arrivals = [None, *self._net.neighbours(node)]
         for closed in self._table[node]:
-            for arriving in self._table[node][closed]:
-                yield (closed, arriving, self._table[node][closed][arriving])
+            goings = self._table[node][closed]
+            for arriving in arrivals:
+                if arriving in goings:
+                    yield (closed, arriving, goings[arriving])
 
     def turns(self, node, closed):
         """Whether the signs turn at a node where these neighbours are closed."""
         need_node(self._net, node)
         key = closed_key(self._net, node, closed)
-        left = names_left(self._net, node, key)
-        if len(left) < 2:
+        if len(self._net.neighbours(node)) < len(key) + 2:
             raise InvalidEntry(closed)
-        first = left[0]
-        here = self._table[node][key][first]
-        steps = 1
-        while here is not None and here != first and steps < len(left):
-            here = self._table[node][key][here]
-            steps = steps + 1
-        return here == first and steps == len(left)
+        return is_round(self._table[node][key])
+
+    def not_turning_at(self, node):
+        """The list of the sets of closed neighbours of a node, in order, where the signs do not turn."""
+        most = len(self._net.neighbours(node)) - 2
+        table = self._table[node]
+        return [closed for closed in table if len(closed) <= most and not is_round(table[closed])]
 
     def copy(self):
         """Signs with the same entries that change independently."""
-        other = Signs(self._net)
-        other._table = {node: copied_entries(self._table[node]) for node in self._table}
-        return other
+        return made_signs(self._net, {node: copied_entries(self._table[node]) for node in self._table})
 
     def differences(self, other):
         """The list of the tuples (node, closed, arriving) of the entries that are not as in other signs."""
@@ -118,14 +144,24 @@ class Signs:
         found = []
         for node in self._table:
             for closed in self._table[node]:
+                ours = self._table[node][closed]
                 theirs = other._table[node][closed]
-                for arriving, going in self._table[node][closed].items():
-                    if going != theirs[arriving]:
-                        found.append((node, closed, arriving))
+                if ours != theirs:
+                    arrivals = [None, *names_left(self._net, node, closed)]
+                    found.extend([(node, closed, name) for name in arrivals if ours[name] != theirs[name]])
         return found
 
     def __eq__(self, other):
         return isinstance(other, Signs) and self._net == other._net and self._table == other._table
+
+
+def made_signs(net, table):
+    """The signs of a net with a table of all its entries that nobody else holds."""
+    # Made of a small net first: all entries of the rows of this one would be made for nothing.
+    made = Signs(Net(("a",)))
+    made._net = net
+    made._table = table
+    return made
 
 
 def names_left(net, node, closed):

@@ -1,39 +1,38 @@
 """Walks by signs at a closing."""
 
 from outsigns.basics import is_count
-from outsigns.closings import need_closing, open_net
+from outsigns.closings import need_closing
 from outsigns.errors import InvalidCount
+from outsigns.meeting import are_all_met, bits_met, bits_of, misses_by, nodes_joined
 from outsigns.nets import need_node
-from outsigns.signs import names_left, need_open, need_signs
+from outsigns.signs import need_open, need_signs
 from outsigns.sorting import sorted_names
 
 
 def next_node(signs, closing, node, arriving):
     """Where one goes on at a node, a name or None."""
-    need_signs(signs)
-    need_closing(closing, signs.net)
-    need_node(signs.net, node)
-    closed = closing.at(node)
-    need_open(arriving, names_left(signs.net, node, closed))
-    return signs.entry_at(node, tuple(closed), arriving)
+    need_walk(signs, closing, node)
+    goings = signs.goings_by_closed(node)[tuple(closing.at(node))]
+    need_open(arriving, goings)
+    return goings[arriving]
 
 
 def walk(signs, closing, start):
     """The lead and the loop of the walk from a node."""
     need_walk(signs, closing, start)
-    return lead_and_loop(signs, closed_table(signs.net, closing), start)
+    return lead_and_loop(goings_at(signs, closing), start)
 
 
 def walk_nodes(signs, closing, start, many):
     """Yield the nodes to which the walk comes, the start first, at most so many."""
     need_walk(signs, closing, start)
     need_count(many)
-    closed = closed_table(signs.net, closing)
+    goings = goings_at(signs, closing)
     here = start
     arriving = None
     for _ in range(many):
         yield here
-        going = signs.entry_at(here, closed[here], arriving)
+        going = goings[here][arriving]
         if going is None:
             return
         arriving = here
@@ -43,20 +42,23 @@ def walk_nodes(signs, closing, start, many):
 def met(signs, closing, start):
     """The sorted list of the nodes that the walk meets."""
     need_walk(signs, closing, start)
-    return nodes_met(signs, closed_table(signs.net, closing), start)
+    return sorted_names(nodes_met(goings_at(signs, closing), start))
 
 
 def missed(signs, closing, start):
     """The sorted list of the nodes of the start's piece that the walk does not meet."""
-    found = met(signs, closing, start)
-    return [node for node in open_net(signs.net, closing).piece_of(start) if node not in found]
+    need_walk(signs, closing, start)
+    goings = goings_at(signs, closing)
+    found = nodes_met(goings, start)
+    return sorted_names([node for node in nodes_joined(goings, start) if node not in found])
 
 
 def is_good_at(signs, closing):
     """Whether the walk from each node meets all nodes of its piece."""
     need_signs(signs)
     need_closing(closing, signs.net)
-    return len(misses_at(signs, closing)) == 0
+    goings = goings_at(signs, closing)
+    return are_all_met(goings, signs.net.links(), bits_met(goings, bits_of(signs.net.nodes())))
 
 
 class Walker:
@@ -64,8 +66,8 @@ class Walker:
 
     def __init__(self, signs, closing, start):
         need_walk(signs, closing, start)
-        self._signs = signs.copy()
-        self._closed = closed_table(signs.net, closing)
+        goings = goings_at(signs, closing)
+        self._goings = {node: dict(goings[node]) for node in goings}
         self._where = start
         self._arriving = None
         self._met = {start: True}
@@ -93,7 +95,7 @@ class Walker:
 
     def go(self):
         """Go on by one link and return the node there; None if the entry tells to stay."""
-        going = self._signs.entry_at(self._where, self._closed[self._where], self._arriving)
+        going = self._goings[self._where][self._arriving]
         if going is None:
             return None
         self._arriving = self._where
@@ -126,46 +128,44 @@ def need_count(many):
         raise InvalidCount(many)
 
 
-def closed_table(net, closing):
-    """A dict from all nodes to the sorted tuples of their closed neighbours."""
-    return {node: tuple(closing.at(node)) for node in net.nodes()}
+def goings_at(signs, closing):
+    """The goings of signs at a closing: a dict from all nodes to the entries that are asked there."""
+    return signs.goings_at(closing.ends())
 
 
-def lead_and_loop(signs, closed, start):
-    """The lead and the loop of the walk from a node, by a table of closed neighbours."""
+def lead_and_loop(goings, start):
+    """The lead and the loop of the walk from a node."""
     nodes = [start]
     seen = {}
-    here = start
-    going = signs.entry_at(start, closed[start], None)
-    while going is not None:
+    arriving = start
+    here = goings[start][None]
+    while here is not None:
+        place = (here, arriving)
+        if place in seen:
+            return nodes[:seen[place]], nodes[seen[place]:]
+        seen[place] = len(nodes)
+        nodes.append(here)
+        going = goings[here][arriving]
         arriving = here
         here = going
-        if (here, arriving) in seen:
-            first = seen[(here, arriving)]
-            return nodes[:first], nodes[first:]
-        seen[(here, arriving)] = len(nodes)
-        nodes.append(here)
-        going = signs.entry_at(here, closed[here], arriving)
     return nodes, []
 
 
-def nodes_met(signs, closed, start):
-    """The sorted list of the nodes that a walk meets, by a table of closed neighbours."""
-    lead, loop = lead_and_loop(signs, closed, start)
-    found = {node: True for node in [*lead, *loop]}
-    return sorted_names(list(found))
+def nodes_met(goings, start):
+    """The list of the nodes that the walk from a node meets."""
+    seen = {}
+    found = {start: True}
+    arriving = start
+    here = goings[start][None]
+    while here is not None and (here, arriving) not in seen:
+        seen[(here, arriving)] = True
+        found[here] = True
+        going = goings[here][arriving]
+        arriving = here
+        here = going
+    return list(found)
 
 
 def misses_at(signs, closing):
     """The tuples (start, missed) of all starts, sorted, that miss a node."""
-    closed = closed_table(signs.net, closing)
-    joined = {}
-    for piece in open_net(signs.net, closing).pieces():
-        for node in piece:
-            joined[node] = piece
-    found = []
-    for start in signs.net.nodes():
-        seen = nodes_met(signs, closed, start)
-        if len(seen) < len(joined[start]):
-            found.append((start, [node for node in joined[start] if node not in seen]))
-    return found
+    return misses_by(goings_at(signs, closing), bits_of(signs.net.nodes()), signs.net.links())

@@ -12,7 +12,8 @@ ord repr any all divmod TypeError ValueError KeyError IndexError LookupError Run
 NotImplemented property staticmethod classmethod""".split()
 METHODS = """append clear copy count endswith extend find get index insert isalnum isalpha isdigit islower isspace
 isupper items join keys ljust lower lstrip partition pop remove replace reverse rfind rjust rpartition rsplit rstrip
-setdefault split splitlines startswith strip update upper values zfill bit_length setter""".split()
+setdefault split splitlines startswith strip update upper values zfill bit_length setter isascii""".split()
+LIBRARY = {"itertools": ["combinations"]}
 BARRED = """register mro elements open input law version_info with_traceback add_note type typing enum namedtuple
 dataclass overload contextmanager Meta metaclass""".split()
 OPERATORS = "__add__ __sub__ __or__ __and__ __contains__ __eq__ __lt__ __le__ __gt__ __ge__ __str__ __repr__ __len__ " \
@@ -90,6 +91,9 @@ class LanguageTest(unittest.TestCase):
             for node in ast.walk(tree):
                 if isinstance(node, ast.ImportFrom):
                     self.assertEqual(node.level, 0)
+                    if node.module in LIBRARY:
+                        self.assertLessEqual({part.name for part in node.names}, set(LIBRARY[node.module]))
+                        continue
                     self.assertTrue(node.module.startswith("outsigns."))
                     below = ast.parse(text_of(node.module.partition(".")[2] + ".py"))
                     defined = [part.name for part in below.body if isinstance(part, (ast.FunctionDef, ast.ClassDef))]
@@ -135,7 +139,10 @@ class LanguageTest(unittest.TestCase):
         for _, _, tree in self.each():
             for node in ast.walk(tree):
                 if isinstance(node, ast.Call) and getattr(node.func, "id", "") in ("sorted", "min", "max"):
-                    self.assertEqual([len(node.args), len(node.keywords)], [1, 0])
+                    self.assertEqual(len(node.args), 1)
+                    if node.keywords:
+                        self.assertEqual([(part.arg, part.value.id) for part in node.keywords], [("key", "str")])
+                        continue
                     self.assertIsInstance(node.args[0], ast.ListComp)
                     plain = node.args[0].elt
                     self.assertTrue(isinstance(plain, ast.JoinedStr) or plain.func.id == "str")
@@ -148,11 +155,38 @@ class LanguageTest(unittest.TestCase):
         self.assertIn("entries", generators)
         for _, _, tree in self.each():
             at_once = [node.iter for node in ast.walk(tree) if isinstance(node, (ast.For, ast.comprehension))]
+            at_once += [node.args[0] for node in ast.walk(tree) if isinstance(node, ast.Call) and node.args
+                        and getattr(node.func, "id", "") in ("list", "tuple", "dict")]
             for node in ast.walk(tree):
                 if isinstance(node, ast.Call):
                     name = getattr(node.func, "id", getattr(node.func, "attr", ""))
                     if name in generators or name in ("enumerate", "zip", "reversed", "items", "values"):
                         self.assertIn(node, at_once)
+
+    def test_reversed_takes_what_is_plainly_a_list(self):
+        for _, _, tree in self.each():
+            for node in ast.walk(tree):
+                if isinstance(node, ast.Call) and getattr(node.func, "id", "") == "reversed":
+                    plain = node.args[0]
+                    self.assertTrue(isinstance(plain, (ast.List, ast.Tuple)) or getattr(plain.func, "id", "") in
+                                    ("list", "tuple", "sorted", "range"))
+
+    def test_attributes_and_methods_have_different_names(self):
+        methods, properties, attributes = set(), set(), set()
+        for name, _, tree in self.each():
+            for held in ast.walk(tree):
+                if isinstance(held, ast.ClassDef) and name != "errors.py":
+                    for part in held.body:
+                        if isinstance(part, ast.FunctionDef):
+                            marks = {getattr(mark, "id", "setter") for mark in part.decorator_list}
+                            (properties if marks & {"property", "setter"} else methods).add(part.name)
+                if isinstance(held, ast.Attribute) and isinstance(held.ctx, ast.Store):
+                    attributes.add(held.attr)
+        self.assertLess(3, len(properties))
+        self.assertEqual(methods & properties, set())
+        self.assertEqual(attributes & methods, set())
+        self.assertEqual(attributes & properties, set())
+        self.assertEqual(attributes & set(METHODS) - {"count"}, set())
 
     def test_double_underscores(self):
         for _, _, tree in self.each():
