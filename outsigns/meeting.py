@@ -55,7 +55,8 @@ def nodes_joined(goings, start):
     found = {start: True}
     waiting = [start]
     while len(waiting) > 0:
-        for other in goings[waiting.pop()]:
+        here = waiting.pop()
+        for other in goings[here]:
             if other is not None and other not in found:
                 found[other] = True
                 waiting.append(other)
@@ -82,3 +83,10 @@ def misses_by(goings, bits, links):
     joined = bits_joined(goings, bits)
     wrong = [start for start in bits if found[start] != joined[start]]
     return [(start, [node for node in bits if bits[node] & (joined[start] ^ found[start])]) for start in wrong]
+
+
+def lost_by(goings, bits, goal):
+    """The list of the nodes, in the sequence of the bits, whose walks do not meet a goal that is joined to them."""
+    found = bits_met(goings, bits)
+    joined = {node: True for node in nodes_joined(goings, goal)}
+    return [node for node in bits if node in joined and not found[node] & bits[goal]]

@@ -32,6 +32,19 @@ def joined_to(table, node):
     return sorted_names(list(found))
 
 
+def pieces_of(table):
+    """The sorted list of the pieces, each a sorted list, by a table of neighbours with sorted keys."""
+    found = []
+    seen = {}
+    for node in table:
+        if node not in seen:
+            piece = joined_to(table, node)
+            found.append(piece)
+            for other in piece:
+                seen[other] = True
+    return found
+
+
 def links_within(links, nodes):
     """Those of some links that join two of these nodes."""
     kept = {node: True for node in nodes}
@@ -124,15 +137,7 @@ class Net:
 
     def pieces(self):
         """The sorted list of the pieces, each a sorted list."""
-        found = []
-        seen = {}
-        for node in self._nodes:
-            if node not in seen:
-                piece = joined_to(self._near, node)
-                found.append(piece)
-                for other in piece:
-                    seen[other] = True
-        return found
+        return pieces_of(self._near)
 
     def piece_of(self, node):
         """The sorted list of the nodes of the piece of a node."""

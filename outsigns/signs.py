@@ -66,8 +66,7 @@ class Signs:
     def __init__(self, net, rows=None):
         need_net(net)
         row_of = rows_by_node(net, rows)
-        if any([len(net.neighbours(node)) > Signs.MOST_NEIGHBOURS for node in net.nodes()]):
-            raise TooMany("neighbours", Signs.MOST_NEIGHBOURS)
+        need_few_neighbours(net)
         self._net = net
         self._table = {node: entries_of_row(row_of[node]) for node in net.nodes()}
 
@@ -153,6 +152,12 @@ class Signs:
 
     def __eq__(self, other):
         return isinstance(other, Signs) and self._net == other._net and self._table == other._table
+
+
+def need_few_neighbours(net):
+    """Raise TooMany if a node of a net has too many neighbours for signs."""
+    if any([len(net.neighbours(node)) > Signs.MOST_NEIGHBOURS for node in net.nodes()]):
+        raise TooMany("neighbours", Signs.MOST_NEIGHBOURS)
 
 
 def made_signs(net, table):

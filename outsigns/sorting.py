@@ -22,3 +22,10 @@ def parts_of_size(items, many):
 def parts_in_order(items):
     """All tuples of some of these different items: shorter ones first, then in order of the positions."""
     return [part for many in range(len(items) + 1) for part in combinations(items, many)]
+
+
+def sorted_lists(lists):
+    """The sorted list of some different lists of names."""
+    # A space sorts ahead of every letter, so these texts sort as the lists do.
+    held = {" ".join(names): names for names in lists}
+    return [held[text] for text in sorted_names(list(held))]

@@ -3,6 +3,7 @@ import os
 import unittest
 
 from outsigns.closings import Closing, open_net
+from outsigns.drawings import drawing
 from outsigns.faults import first_fault, is_good
 from outsigns.nets import Net
 from outsigns.signs import Signs
@@ -36,6 +37,15 @@ class ExamplesTest(unittest.TestCase):
         closing = Closing.of(("b", "d"))
         self.assertEqual([walk(signs, closing, "c"), missed(signs, closing, "c"), signs["c", ["a"], "d"]],
                          [(["c"], ["a", "d", "c"]), ["b"], "b"])
+
+    def test_drawings(self):
+        net = Net.ring("a", "b", "c", "d") + ("a", "c")
+        self.assertEqual([drawing(net)["a"], drawing(net)["b"], drawing(net).is_drawing, (~drawing(net))["a"]],
+                         [("b", "c", "d"), ("c", "a"), True, ("d", "c", "b")])
+        self.assertEqual(drawing(net).rounds(), [
+            [("a", "b"), ("b", "c"), ("c", "d"), ("d", "a")], [("a", "c"), ("c", "b"), ("b", "a")],
+            [("a", "d"), ("d", "c"), ("c", "a")]])
+        self.assertEqual(drawing(net).tour("c"), ["c", "d", "a", "b"])
 
     def test_readme(self):
         path = os.path.join(os.path.dirname(os.path.dirname(os.path.abspath(__file__))), "README.md")

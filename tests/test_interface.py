@@ -14,6 +14,11 @@ FUNCTIONS = {
         "all_closings(net)", "faults(signs)", "first_fault(signs)", "is_good(signs)", "fewest_closed(signs)",
         "unused(signs)", "not_turning(signs)", "star(net, node, neighbours)", "star_fault(signs)",
     ],
+    "goals": ["lost(signs, closing, goal)", "serves(signs, goal)", "first_loss(signs, goal)",
+              "goal_signs(net, goal, signs)"],
+    "blocks": ["blocks(net)", "cut_nodes(net)", "cycle_of(net, block)", "chords(net, block)"],
+    "drawings": ["has_drawing(net)", "drawing(net)", "is_good_rows(rows)", "least_break(rows)", "rows_fault(rows)",
+                 "ring_pieces(net)"],
 }
 METHODS = {
     ("nets", "Net"): [
@@ -40,10 +45,15 @@ METHODS = {
         "turns(self, node, closed)", "copy(self)", "differences(self, other)", "__eq__(self, other)",
     ],
     ("walking", "Walker"): ["__init__(self, signs, closing, start)", "go(self)", "__call__(self, many)"],
+    ("rows", "Rows"): [
+        "__init__(self, net, rows=None)", "__getitem__(self, at)", "__invert__(self)", "__sub__(self, other)",
+        "opened(self, closing)", "as_dict(self)", "signs(self)", "__eq__(self, other)", "__repr__(self)",
+        "rounds(self)", "tour(self, node)",
+    ],
 }
 PROPERTIES = {
     ("nets", "Net"): {"size": False}, ("closings", "Site"): {"net": False, "closing": True},
-    ("signs", "Signs"): {"net": False},
+    ("signs", "Signs"): {"net": False}, ("rows", "Rows"): {"net": False, "is_flat": False, "is_drawing": False},
     ("walking", "Walker"): {"where": False, "arriving": False, "met_nodes": False, "taken": False},
 }
 STATIC = [("nets", "Net", "of"), ("closings", "Closing", "of"), ("closings", "Closing", "all_of")]

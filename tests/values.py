@@ -2,6 +2,7 @@
 
 from outsigns.closings import Closing, Site
 from outsigns.nets import Net
+from outsigns.rows import Rows
 from outsigns.signs import Signs
 
 NOT_NAMES = [
@@ -17,9 +18,9 @@ NOT_LINKS = [
 NOT_LISTS = [None, True, False, 0, 1, "", "a", "ab", {}, {"a": "b"}, {"a"}, Net(["a"]), Closing(), b"a", range(2)]
 NOT_COUNTS = [None, True, False, -1, -(10 ** 29), "", "1", [], [1], (), (1,), {}, b"1", Closing()]
 RING = Net.ring("a", "b", "c")
-NOT_NETS = [None, True, 1, "", "a", [], ["a"], ("a", "b"), {}, Closing(), Site(RING), Signs(RING), Net]
-NOT_CLOSINGS = [None, True, 0, "", "-", "a-b", [], [("a", "b")], ("a", "b"), (), {}, RING, Site(RING), Signs(RING)]
-NOT_SIGNS = [None, True, 0, "", "a", [], (), {}, {"a": []}, RING, Closing(), Site(RING), Signs]
+NOT_NETS = [None, True, 1, "", "a", [], ["a"], ("a", "b"), {}, Closing(), Site(RING), Signs(RING), Rows(RING), Net]
+NOT_CLOSINGS = [None, True, 0, "", "-", "a-b", [], [("a", "b")], ("a", "b"), (), {}, RING, Site(RING), Signs(RING), Rows(RING)]
+NOT_SIGNS = [None, True, 0, "", "a", [], (), {}, {"a": []}, RING, Closing(), Site(RING), Rows(RING), Signs]
 
 
 def many_names(many):
