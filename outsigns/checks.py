@@ -1,13 +1,19 @@
 """Checks of lists that are passed."""
 
-from outsigns.basics import is_link, is_name, ordered_pair
-from outsigns.errors import InvalidLinks, InvalidNodes
+from outsigns.basics import is_count, is_link, is_name, ordered_pair
+from outsigns.errors import InvalidCount, InvalidLinks, InvalidNodes
 from outsigns.sorting import sorted_links
 
 
 def is_list(value):
     """Whether a value is accepted where a list is said."""
     return isinstance(value, (list, tuple))
+
+
+def need_count(many):
+    """Raise InvalidCount unless a value is a COUNT."""
+    if not is_count(many):
+        raise InvalidCount(many)
 
 
 def is_choice(value, names):

@@ -1,8 +1,7 @@
 """Walks by signs at a closing."""
 
-from outsigns.basics import is_count
+from outsigns.checks import need_count
 from outsigns.closings import need_closing
-from outsigns.errors import InvalidCount
 from outsigns.meeting import are_all_met, bits_met, bits_of, misses_by, nodes_joined
 from outsigns.nets import need_node
 from outsigns.signs import need_open, need_signs
@@ -120,12 +119,6 @@ def need_walk(signs, closing, start):
     need_signs(signs)
     need_closing(closing, signs.net)
     need_node(signs.net, start)
-
-
-def need_count(many):
-    """Raise InvalidCount unless a value is a COUNT."""
-    if not is_count(many):
-        raise InvalidCount(many)
 
 
 def goings_at(signs, closing):

@@ -3,8 +3,10 @@ import os
 import unittest
 
 from outsigns.closings import Closing, open_net
+from outsigns.counting import count_drawings, drawing_at
 from outsigns.drawings import drawing
 from outsigns.faults import first_fault, is_good
+from outsigns.fillings import count_fillings, filling_at
 from outsigns.nets import Net
 from outsigns.signs import Signs
 from outsigns.walking import missed, walk, walk_nodes
@@ -46,6 +48,14 @@ class ExamplesTest(unittest.TestCase):
             [("a", "b"), ("b", "c"), ("c", "d"), ("d", "a")], [("a", "c"), ("c", "b"), ("b", "a")],
             [("a", "d"), ("d", "c"), ("c", "a")]])
         self.assertEqual(drawing(net).tour("c"), ["c", "d", "a", "b"])
+
+    def test_counts(self):
+        net = Net.ring("a", "b", "c") | Net.path("a", "e")
+        self.assertEqual([count_drawings(net), drawing_at(net, 1)["a"], drawing_at(net, 2)["a"]],
+                         [4, ("c", "b", "e"), ("e", "b", "c")])
+        ring = Net.ring("a", "b", "c", "d")
+        self.assertEqual([count_fillings(ring), filling_at(ring, 0), filling_at(ring, 1)],
+                         [2, [("b", "d")], [("a", "c")]])
 
     def test_readme(self):
         path = os.path.join(os.path.dirname(os.path.dirname(os.path.abspath(__file__))), "README.md")

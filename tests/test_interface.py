@@ -19,6 +19,9 @@ FUNCTIONS = {
     "blocks": ["blocks(net)", "cut_nodes(net)", "cycle_of(net, block)", "chords(net, block)"],
     "drawings": ["has_drawing(net)", "drawing(net)", "is_good_rows(rows)", "least_break(rows)", "rows_fault(rows)",
                  "ring_pieces(net)"],
+    "counting": ["count_drawings(net)", "drawing_at(net, number)", "number_of(rows)", "drawings(net, first, many)"],
+    "fillings": ["catalan(many)", "faces(net)", "count_fillings(net)", "filling_at(net, number)",
+                 "number_of_filling(net, links)"],
 }
 METHODS = {
     ("nets", "Net"): [
@@ -50,13 +53,19 @@ METHODS = {
         "opened(self, closing)", "as_dict(self)", "signs(self)", "__eq__(self, other)", "__repr__(self)",
         "rounds(self)", "tour(self, node)",
     ],
+    ("bundles", "Bundle"): [
+        "__init__(self, net, groups, inner, ties)", "single(net)", "groups(self)", "inner(self)", "ties(self)",
+        "group_of(self, node)", "tie(self, one, other)", "__rshift__(self, other)", "__eq__(self, other)",
+    ],
 }
 PROPERTIES = {
     ("nets", "Net"): {"size": False}, ("closings", "Site"): {"net": False, "closing": True},
     ("signs", "Signs"): {"net": False}, ("rows", "Rows"): {"net": False, "is_flat": False, "is_drawing": False},
+    ("bundles", "Bundle"): {"net": False, "small": False, "kind": False},
     ("walking", "Walker"): {"where": False, "arriving": False, "met_nodes": False, "taken": False},
 }
-STATIC = [("nets", "Net", "of"), ("closings", "Closing", "of"), ("closings", "Closing", "all_of")]
+STATIC = [("nets", "Net", "of"), ("closings", "Closing", "of"), ("closings", "Closing", "all_of"),
+          ("bundles", "Bundle", "single")]
 OF_CLASS = [("nets", "Net", "path"), ("nets", "Net", "ring"), ("nets", "Net", "full"), ("signs", "Signs", "of_rows")]
 
 
@@ -96,7 +105,8 @@ class InterfaceTest(unittest.TestCase):
             self.assertIsInstance(vars(getattr(module_of(file), kind))[name], classmethod)
 
     def test_generators(self):
-        for file, name in (("walking", "walk_nodes"), ("faults", "all_closings"), ("faults", "faults")):
+        for file, name in (("walking", "walk_nodes"), ("faults", "all_closings"), ("faults", "faults"),
+                           ("counting", "drawings")):
             self.assertTrue(inspect.isgeneratorfunction(getattr(module_of(file), name)))
         self.assertTrue(inspect.isgeneratorfunction(module_of("signs").Signs.entries))
 

@@ -13,7 +13,7 @@ NotImplemented property staticmethod classmethod""".split()
 METHODS = """append clear copy count endswith extend find get index insert isalnum isalpha isdigit islower isspace
 isupper items join keys ljust lower lstrip partition pop remove replace reverse rfind rjust rpartition rsplit rstrip
 setdefault split splitlines startswith strip update upper values zfill bit_length setter isascii""".split()
-LIBRARY = {"itertools": ["combinations"]}
+LIBRARY = {"itertools": ["combinations"], "math": ["comb", "factorial"]}
 BARRED = """register mro elements open input law version_info with_traceback add_note type typing enum namedtuple
 dataclass overload contextmanager Meta metaclass""".split()
 OPERATORS = "__add__ __sub__ __or__ __and__ __contains__ __eq__ __lt__ __le__ __gt__ __ge__ __str__ __repr__ __len__ " \
