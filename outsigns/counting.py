@@ -6,7 +6,7 @@ from outsigns.basics import is_count, ordered_pair
 from outsigns.blocks import blocks
 from outsigns.checks import need_count
 from outsigns.drawings import block_cycles, blocks_by_node, drawn_rows
-from outsigns.errors import InvalidCount, InvalidNumber, NoDrawing
+from outsigns.errors import InvalidNumber, NoDrawing
 from outsigns.nets import links_within, need_net
 from outsigns.rows import need_rows
 
@@ -34,8 +34,10 @@ def rank_of(order, items):
 
 
 class Choices:
-    """The choices of which the drawings of a net are made, if it has some: an order of the blocks for each node, and a
-    direction for each block of three or more nodes. Blocks stand for their positions among the sorted ones.
+    """The choices of which the drawings of a net that has some are made.
+
+    These are an order of its blocks for each node, and a direction for each block of three or more nodes. Blocks stand
+    for their positions among the sorted ones.
     """
 
     def __init__(self, net, parts, cycles):
@@ -126,8 +128,7 @@ def number_of(rows):
 def drawings(net, first, many):
     """Yield the drawings with the numbers from a first one on, at most so many, as Rows."""
     need_net(net)
-    if not is_count(first):
-        raise InvalidCount(first)
+    need_count(first)
     need_count(many)
     made = choices_of(net)
     if made is not None:

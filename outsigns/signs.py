@@ -93,11 +93,11 @@ class Signs:
         self._table[node][closed][arriving] = worth
 
     def goings_by_closed(self, node):
-        """A dict from the sets of closed neighbours of a node, in order, to its goings: dicts that nobody changes."""
+        """A dict from the sets of closed neighbours of a node, in order, to its goings; only the signs change them."""
         return self._table[node]
 
     def goings_at(self, closed):
-        """A dict from all nodes to their goings, dicts that nobody changes, by a dict of closed neighbours."""
+        """A dict from all nodes to their goings, by a dict of closed neighbours; only the signs change them."""
         return {node: self._table[node][closed.get(node, ())] for node in self._table}
 
     def set_row(self, node, row):

@@ -78,6 +78,14 @@ class LossTest(Refusals):
         self.assertEqual(lost(signs=signs, closing=Closing.all_of(KITE), goal="a"), [])
         self.assertEqual([serves(signs=DRAWN, goal="a"), first_loss(signs=DRAWN, goal="a")], [True, None])
 
+    def test_one_link_is_left_open(self):
+        signs = Signs(Net.path("a", "b"))
+        signs["b", [], None] = None
+        self.assertEqual([first_loss(signs, "a"), serves(signs, "b")], [(Closing(), "b"), True])
+        signs = Signs(Net.path("a", "b", "c"))
+        signs["b", ["c"], None] = None
+        self.assertEqual([first_loss(signs, "a"), serves(signs, "c")], [(Closing.of(("b", "c")), "b"), True])
+
     def test_widest_net(self):
         signs = Signs(widest_net())
         closing = Closing(widest_net().links()[1::2])

@@ -1,6 +1,7 @@
 import itertools
 import unittest
 
+from drawn import Chance, drawn_net
 from outsigns.errors import InvalidLink, InvalidLinks, InvalidName, InvalidNet, InvalidNodes
 from outsigns.errors import LinkTaken, NameTaken, NobodyLeft, TooMany, UnknownLink, UnknownNode
 from outsigns.nets import Net
@@ -283,6 +284,40 @@ class ChangedTest(Refusals):
             self.refused(InvalidNet, {"value": value}, lambda: KITE | value)
             self.refused(InvalidNet, {"value": value}, lambda: KITE & value)
             self.refused(InvalidNet, {"value": value}, lambda: KITE.is_part_of(value))
+
+    def test_drawn_nets_against_nets_made_anew(self):
+        for seed in range(150):
+            chance = Chance(seed)
+            net, other = drawn_net(chance, 25), drawn_net(chance, 25)
+            nodes, links = net.nodes(), net.links()
+            gone = chance.shuffled(nodes)[:chance.below(len(nodes))]
+            pairs = [(net.without(*gone), Net([node for node in nodes if node not in gone],
+                                              [link for link in links if not set(link) & set(gone)]))]
+            pairs.append((net | other, Net(sorted({*nodes, *other.nodes()}), sorted({*links, *other.links()}))))
+            if set(nodes) & set(other.nodes()):
+                pairs.append((net & other, Net(sorted({*nodes} & {*other.nodes()}), sorted({*links} & {*other.links()}))))
+            fresh = dict(zip(nodes, chance.shuffled(nodes)))
+            pairs.append((net.renamed(**fresh), Net(nodes, [(fresh[one], fresh[two]) for one, two in links])))
+            for one, two in chance.shuffled(links)[:4]:
+                least, gone = min(one, two), max(one, two)
+                held = [{least if node == gone else node for node in link} for link in links]
+                left = {tuple(sorted(link)) for link in held if len(link) == 2}
+                pairs.append((net.drawn_together((two, one)), Net([name for name in nodes if name != gone], sorted(left))))
+                less = Net(nodes, [link for link in links if link != (one, two)])
+                pairs += [(net - (two, one), less), (less + (two, one), net)]
+            if links:
+                turned = [link[::chance.pick([1, -1])] for link in chance.shuffled(links)]
+                pairs.append((Net.of(*turned), Net(sorted({node for link in links for node in link}), links)))
+            for found, expected in pairs:
+                self.same(found, expected)
+
+    def same(self, found, expected):
+        """Look whether two nets tell the same, and whether what the first one tells is sorted."""
+        self.assertEqual([found, repr(found), found.pieces()], [expected, repr(expected), expected.pieces()])
+        self.assertEqual([found.nodes(), found.links()], [sorted(found.nodes()), sorted(found.links())])
+        near = [found.neighbours(node) for node in found.nodes()]
+        self.assertEqual(near, [expected.neighbours(node) for node in expected.nodes()])
+        self.assertTrue(all(link in found and link[::-1] in found for link in expected.links()))
 
     def test_parameters_by_name(self):
         self.assertEqual(KITE.neighbours(node="d"), ["c"])
