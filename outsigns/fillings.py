@@ -45,9 +45,15 @@ def face_below(ends, low, high):
 
 def faces(net):
     """The sorted list of the faces, each the list of its nodes in the sequence of the cycle."""
-    cycle = only_cycle(net)
+    return faces_within(net, only_cycle(net))
+
+
+def faces_within(net, cycle):
+    """The sorted list of the faces of the block that has a cycle, each the list of its nodes in this sequence."""
     many = len(cycle)
-    ends = [[at for at in range(low + 1, many) if (cycle[low], cycle[at]) in net] for low in range(many)]
+    place = {node: at for at, node in enumerate(cycle)}
+    near = [[place[name] for name in net.neighbours(node) if name in place] for node in cycle]
+    ends = [[at for at in range(low + 1, many) if at in near[low]] for low in range(many)]
     # Each face lies below one link, and they are sorted as the ends of these links are.
     found = [face_below(ends, low, high) for low in range(many) for high in ends[low] if high > low + 1]
     return [[cycle[at] for at in face] for face in found]

@@ -51,6 +51,15 @@ def links_within(links, nodes):
     return [(one, other) for one, other in links if one in kept and other in kept]
 
 
+def nodes_of(links):
+    """The sorted list of the nodes of some links."""
+    nodes = {}
+    for one, other in links:
+        nodes[one] = True
+        nodes[other] = True
+    return sorted_names(list(nodes))
+
+
 def need_room(nodes, links):
     """Raise TooMany if there are too many nodes or links for a net."""
     if len(nodes) > Net.MOST_NODES:
@@ -85,11 +94,7 @@ class Net:
         if len(links) == 0:
             raise InvalidLinks(None)
         kept = checked_links(links, None)
-        nodes = {}
-        for one, other in kept:
-            nodes[one] = True
-            nodes[other] = True
-        return made_net(sorted_names(list(nodes)), kept)
+        return made_net(nodes_of(kept), kept)
 
     @classmethod
     def path(cls, *nodes):
@@ -257,6 +262,11 @@ def need_link(net, link):
     """Raise UnknownLink unless a value is a link of a net."""
     if not isinstance(link, tuple) or link not in net:
         raise UnknownLink(link)
+
+
+def has_links(net, links):
+    """Whether a net has all of these links, each as it is returned."""
+    return all([link in net._held for link in links])
 
 
 def need_links(net, links):

@@ -92,6 +92,10 @@ class Signs:
         need_open(worth, names_left(self._net, node, closed))
         self._table[node][closed][arriving] = worth
 
+    def goings(self, node, closed):
+        """The goings of a node for a sorted tuple of closed neighbours; only the signs change them."""
+        return self._table[node][closed]
+
     def goings_by_closed(self, node):
         """A dict from the sets of closed neighbours of a node, in order, to its goings; only the signs change them."""
         return self._table[node]

@@ -2,11 +2,14 @@ import doctest
 import os
 import unittest
 
+from outsigns.breaking import first_break
+from outsigns.bundles import Bundle
 from outsigns.closings import Closing, open_net
 from outsigns.counting import count_drawings, drawing_at
 from outsigns.drawings import drawing
 from outsigns.faults import first_fault, is_good
 from outsigns.fillings import count_fillings, filling_at
+from outsigns.joining import can_be_joined, least_cut, way_of_blocks
 from outsigns.nets import Net
 from outsigns.signs import Signs
 from outsigns.walking import missed, walk, walk_nodes
@@ -56,6 +59,17 @@ class ExamplesTest(unittest.TestCase):
         ring = Net.ring("a", "b", "c", "d")
         self.assertEqual([count_fillings(ring), filling_at(ring, 0), filling_at(ring, 1)],
                          [2, [("b", "d")], [("a", "c")]])
+
+    def test_breaking(self):
+        net = Net.full("a", "b", "c", "d")
+        closing, start, node = first_break(Signs(net), Bundle.single(net))
+        self.assertEqual([str(closing), start, node], ["a-c", "b", "c"])
+
+    def test_joining(self):
+        net = Net.ring("a", "b", "c", "d") + ("a", "c")
+        self.assertEqual([can_be_joined(net, "b", "d"), str(least_cut(Net.full("a", "b", "c", "d")))], [False, "a-b"])
+        self.assertEqual(way_of_blocks(net | Net.path("c", "e"), "b", "e"),
+                         [("b", "c", ["a", "b", "c", "d"]), ("c", "e", ["c", "e"])])
 
     def test_readme(self):
         path = os.path.join(os.path.dirname(os.path.dirname(os.path.abspath(__file__))), "README.md")

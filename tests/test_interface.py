@@ -22,6 +22,11 @@ FUNCTIONS = {
     "counting": ["count_drawings(net)", "drawing_at(net, number)", "number_of(rows)", "drawings(net, first, many)"],
     "fillings": ["catalan(many)", "faces(net)", "count_fillings(net)", "filling_at(net, number)",
                  "number_of_filling(net, links)"],
+    "knots": ["is_knot(net, value)", "find_knot(net)", "reduction(net)"],
+    "carrying": ["brought_back(bundle, closing)", "carried(signs, bundle)", "carried_rows(rows, bundle)"],
+    "breaking": ["first_break(signs, bundle)", "find_break(signs)", "is_break(signs, value)"],
+    "joining": ["can_be_joined(net, one, other)", "joinable(net)", "least_cut(net)", "way_of_blocks(net, one, other)",
+                "with_link(rows, one, other, at_one, at_other)"],
 }
 METHODS = {
     ("nets", "Net"): [

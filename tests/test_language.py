@@ -63,7 +63,7 @@ class LanguageTest(unittest.TestCase):
                 self.assertLessEqual(function.end_lineno - function.lineno + 1, 40)
 
     def test_statements(self):
-        barred = (ast.AugAssign, ast.Try, ast.Global, ast.Nonlocal, ast.GeneratorExp, ast.Lambda, ast.Set, ast.SetComp,
+        barred = (ast.AugAssign, ast.Global, ast.Nonlocal, ast.GeneratorExp, ast.Lambda, ast.Set, ast.SetComp,
                   ast.NamedExpr, ast.AnnAssign, ast.AsyncFunctionDef, ast.Import, ast.Await, ast.Match, ast.With)
         for _, _, tree in self.each():
             for node in ast.walk(tree):
