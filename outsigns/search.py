@@ -9,9 +9,14 @@ from outsigns.sorting import parts_of_size
 MOST_SEARCHED = 10
 
 
+def has_few_links(net):
+    """Whether a net has so few links that one can go through all closings."""
+    return net.size <= MOST_SEARCHED
+
+
 def need_few_links(net):
     """Raise TooMany if a net has too many links to go through all closings."""
-    if net.size > MOST_SEARCHED:
+    if not has_few_links(net):
         raise TooMany("links", MOST_SEARCHED)
 
 

@@ -27,6 +27,10 @@ FUNCTIONS = {
     "breaking": ["first_break(signs, bundle)", "find_break(signs)", "is_break(signs, value)"],
     "joining": ["can_be_joined(net, one, other)", "joinable(net)", "least_cut(net)", "way_of_blocks(net, one, other)",
                 "with_link(rows, one, other, at_one, at_other)"],
+    "tours": ["tour_length(net, node)", "steps_to(signs, closing, start, goal)", "steps_to_all(signs, closing, start)",
+              "longest(signs)"],
+    "texts": ["net_text(net)", "read_net(text)", "rows_text(rows)", "read_rows(net, text)"],
+    "judge": ["is_claim(value)", "certificate_of(claim)", "is_certificate(claim, value)", "answer(net)"],
 }
 METHODS = {
     ("nets", "Net"): [
@@ -61,6 +65,13 @@ METHODS = {
     ("bundles", "Bundle"): [
         "__init__(self, net, groups, inner, ties)", "single(net)", "groups(self)", "inner(self)", "ties(self)",
         "group_of(self, node)", "tie(self, one, other)", "__rshift__(self, other)", "__eq__(self, other)",
+    ],
+    ("judge", "Answer"): ["__init__(self, about, paper)", "told(self)", "is_yes(self)"],
+    ("judge", "Drawn"): ["__init__(self, about, paper)", "told(self)", "is_yes(self)"],
+    ("judge", "Knotted"): ["__init__(self, about, paper)", "told(self)", "is_yes(self)"],
+    ("desk", "Desk"): [
+        "__init__(self)", "do(self, command)", "do_all(self, *commands)", "trial(self)", "tried(self, action)",
+        "attempt(self, *commands)", "names(self)", "log(self)", "net_of(self, name)", "rows_of(self, name)",
     ],
 }
 PROPERTIES = {
