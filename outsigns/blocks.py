@@ -7,59 +7,47 @@ from outsigns.nets import links_within, need_net
 from outsigns.sorting import sorted_lists, sorted_names
 
 
-class BlockSearch:
-    """A search through a net, by a table of neighbours: it goes as deep as it can and finds the blocks on its way back.
+def blocks_by(near):
+    """The list of the blocks, as sorted lists, by a table of neighbours.
 
-    Each node has a number, in the sequence in which they are reached, and the least number of a node that is reached by
-    one link from it or from those behind it.
+    One goes through each piece as deep as one can, and finds the blocks on the way back: the nodes have numbers, in the
+    sequence in which they are reached.
     """
+    number = {}
+    path = []
+    found = []
 
-    def __init__(self, near):
-        self._near = near
-        self._number = {}
-        self._least = {}
-        self._path = []
-        self._found = []
+    def visit(node, before):
+        """Go to a node, on to all that is joined to it but by the node before, and back.
 
-    def found_blocks(self):
-        """The blocks found, as sorted lists."""
-        return self._found
+        Returned is the least number of a node to which a link leads from one of these.
+        """
+        number[node] = len(number)
+        path.append(node)
+        least = number[node]
+        for other in near[node]:
+            if other not in number:
+                reached = visit(other, node)
+                if reached < least:
+                    least = reached
+                if reached >= number[node]:
+                    at = path.index(other)
+                    found.append(sorted_names([node, *path[at:]]))
+                    del path[at:]
+            elif other != before and number[other] < least:
+                least = number[other]
+        return least
 
-    def visit(self, node, before):
-        """Go to a node, unless one was there, and through all that is joined to it but by the node before."""
-        if node in self._number:
-            return
-        self._number[node] = len(self._number)
-        self._least[node] = self._number[node]
-        self._path.append(node)
-        for other in self._near[node]:
-            if other not in self._number:
-                self.visit(other, node)
-                self.note_reached(node, self._least[other])
-                if self._least[other] >= self._number[node]:
-                    self.take_block(node, other)
-            elif other != before:
-                self.note_reached(node, self._number[other])
-
-    def note_reached(self, node, number):
-        """Note that one comes to the node of a number from a node or from those behind it."""
-        if number < self._least[node]:
-            self._least[node] = number
-
-    def take_block(self, node, other):
-        """Keep the block of a node and of all that was reached from another one and is in no block yet."""
-        at = self._path.index(other)
-        self._found.append(sorted_names([node, *self._path[at:]]))
-        self._path = self._path[:at]
+    for node in near:
+        if node not in number:
+            visit(node, None)
+    return found
 
 
 def blocks(net):
     """The sorted list of the blocks, as sorted lists."""
     need_net(net)
-    search = BlockSearch({node: net.neighbours(node) for node in net.nodes()})
-    for node in net.nodes():
-        search.visit(node, None)
-    return sorted_lists(search.found_blocks())
+    return sorted_lists(blocks_by(net.near))
 
 
 def cut_nodes(net):
@@ -96,15 +84,12 @@ def need_block(net, block):
 
 def cycle_within(net, block):
     """The cycle of what surely is a block, None if it has no drawing."""
-    if len(block) == 2:
+    if len(block) < 4:
         return block
-    near = {node: {} for node in block}
-    for one, other in links_within(net.links(), block):
-        near[one][other] = True
-        near[other][one] = True
+    inside = {node: True for node in block}
+    near = {node: {name: True for name in net.near[node] if name in inside} for node in block}
     taken = take_off(near)
-    cycle = put_back(list(near), taken) if len(near) == 3 else None
-    return None if cycle is None else turned(cycle, block[0])
+    return cycle_with(list(near), taken, block[0]) if len(near) == 3 else None
 
 
 def take_off(near):
@@ -129,25 +114,25 @@ def take_off(near):
     return taken
 
 
-def put_back(cycle, taken):
-    """A cycle of three nodes with all that was taken off; None if a node does not fit between its neighbours."""
+def cycle_with(three, taken, first):
+    """The cycle of three nodes with all that was taken off; None if a node does not fit between its neighbours.
+
+    It begins with its first node and goes on to the lesser one of the two beside it.
+    """
+    one, two, other = three
+    after = {one: two, two: other, other: one}
+    ahead = {two: one, other: two, one: other}
     for node, one, other in taken[::-1]:
-        at = cycle.index(one)
-        by = cycle.index(other)
-        if (at + 1) % len(cycle) == by:
-            cycle.insert(at + 1, node)
-        elif (by + 1) % len(cycle) == at:
-            cycle.insert(by + 1, node)
-        else:
+        if after[other] == one:
+            one, other = other, one
+        elif after[one] != other:
             # Something else fits there: with it, there are three ways between the two that all have nodes.
             return None
+        after[one] = ahead[other] = node
+        after[node] = other
+        ahead[node] = one
+    behind = after if after[first] < ahead[first] else ahead
+    cycle = [first]
+    while behind[cycle[-1]] != first:
+        cycle.append(behind[cycle[-1]])
     return cycle
-
-
-def turned(cycle, first):
-    """A cycle that begins with a node and goes on to the lesser one of the two beside it."""
-    at = cycle.index(first)
-    found = [*cycle[at:], *cycle[:at]]
-    if found[-1] < found[1]:
-        return [first, *found[:0:-1]]
-    return found

@@ -4,6 +4,7 @@ from outsigns.bundles import need_bundle
 from outsigns.closings import made_closing, need_closing
 from outsigns.errors import OtherNet
 from outsigns.nets import neighbour_table
+from outsigns.rowlists import plain_rows
 from outsigns.rows import made_rows, need_rows
 from outsigns.signs import made_signs, need_few_neighbours, need_signs
 from outsigns.sorting import parts_in_order, sorted_names
@@ -67,32 +68,20 @@ def way_out(goings, outs, known, here, arriving):
     return known[(here, arriving)]
 
 
-def carried_entries(signs, group, near, outs):
-    """All entries of a group for the signs that are carried over."""
+def carried_goings(signs, group, near, outs):
+    """A dict from all sets of closed neighbours of a group to its goings for the signs that are carried over."""
     tied = {node: True for node, _ in outs}
     still = {node: goings_inside(signs, node, near, outs, ()) for node in group if node not in tied}
     found = {}
     for closed in parts_in_order(sorted_names(list(outs.values()))):
         goings = {**still, **{node: goings_inside(signs, node, near, outs, closed) for node in tied}}
         known = {}
-        entries = {None: way_out(goings, outs, known, group[0], None)}
+        goes = {None: way_out(goings, outs, known, group[0], None)}
         for node, name in outs:
             if outs[(node, name)] not in closed:
-                entries[outs[(node, name)]] = way_out(goings, outs, known, node, name)
-        found[closed] = entries
+                goes[outs[(node, name)]] = way_out(goings, outs, known, node, name)
+        found[closed] = goes
     return found
-
-
-def carried(signs, bundle):
-    """The signs that are carried over to the small net of a bundle."""
-    need_signs(signs)
-    need_bundle(bundle)
-    need_net_of(signs.net, bundle)
-    need_few_neighbours(bundle.small)
-    near = near_inside(bundle)
-    outs = ways_out_of(bundle)
-    return made_signs(bundle.small, {group[0]: carried_entries(signs, group, near, outs[group[0]])
-                                     for group in bundle.groups()})
 
 
 def carried_row(rows, outs, node, before):
@@ -111,16 +100,36 @@ def carried_row(rows, outs, node, before):
     return found
 
 
+def rows_carried(rows, bundle):
+    """A dict from all groups of a bundle to their carried rows, by a dict of the rows of its net."""
+    near = near_inside(bundle)
+    outs_of = ways_out_of(bundle)
+    found = {}
+    for group in bundle.groups():
+        outs = outs_of[group[0]]
+        inside = {node: [name for name in rows[node] if name in near[node] or (node, name) in outs] for node in group}
+        found[group[0]] = tuple(carried_row(inside, outs, group[0], None))
+    return found
+
+
+def carried(signs, bundle):
+    """The signs that are carried over to the small net of a bundle."""
+    need_signs(signs)
+    need_bundle(bundle)
+    need_net_of(signs.net, bundle)
+    need_few_neighbours(bundle.small)
+    rows = signs.rows_alone()
+    if rows is not None:
+        return made_signs(bundle.small, rows_carried(rows, bundle), {})
+    near = near_inside(bundle)
+    outs = ways_out_of(bundle)
+    return made_signs(bundle.small, plain_rows(bundle.small), {
+        group[0]: carried_goings(signs, group, near, outs[group[0]]) for group in bundle.groups()})
+
+
 def carried_rows(rows, bundle):
     """The rows that are carried over to the small net of a bundle."""
     need_rows(rows)
     need_bundle(bundle)
     need_net_of(rows.net, bundle)
-    near = near_inside(bundle)
-    found = {}
-    outs_of = ways_out_of(bundle)
-    for group in bundle.groups():
-        outs = outs_of[group[0]]
-        inside = {node: [name for name in rows[node] if name in near[node] or (node, name) in outs] for node in group}
-        found[group[0]] = tuple(carried_row(inside, outs, group[0], None))
-    return made_rows(bundle.small, found)
+    return made_rows(bundle.small, rows_carried(rows.as_dict(), bundle))

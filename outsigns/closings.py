@@ -3,7 +3,7 @@
 from outsigns.basics import is_link, is_name, ordered_pair
 from outsigns.checks import checked_links
 from outsigns.errors import InvalidClosing, InvalidName, LinkTaken, TooMany, UnknownLink
-from outsigns.nets import Net, made_net, need_link, need_links, need_net
+from outsigns.nets import Net, less_links, need_link, need_links, need_net
 from outsigns.sorting import sorted_links
 
 
@@ -11,11 +11,9 @@ class Closing:
     """A set of closed links; it never changes."""
 
     def __init__(self, links=()):
-        kept = checked_links(links, None)
-        need_few(kept)
-        self._links = kept
-        self._place = (len(kept), kept)
-        self._closed = {link: True for link in kept}
+        # Closings that are made of others begin as empty ones: these are not checked.
+        self._links = () if links == () else tuple(few_links(checked_links(links, None)))
+        self._closed = None
         self._ends = None
 
     @staticmethod
@@ -33,6 +31,17 @@ class Closing:
         """The sorted list of the links."""
         return list(self._links)
 
+    @property
+    def closed(self):
+        """A dict with the links, which nobody changes."""
+        if self._closed is None:
+            self._closed = {link: True for link in self._links}
+        return self._closed
+
+    def place(self):
+        """The tuple by which closings are in order."""
+        return (len(self._links), self._links)
+
     def at(self, node):
         """The sorted list of the nodes to which the links lead from this one."""
         if not is_name(node):
@@ -49,45 +58,45 @@ class Closing:
 
     def __or__(self, other):
         need_some_closing(other)
-        more = [link for link in other._links if link not in self._closed]
+        more = [link for link in other._links if link not in self.closed]
         return made_closing(sorted_links([*self._links, *more]))
 
     def __and__(self, other):
         need_some_closing(other)
-        return made_closing([link for link in self._links if link in other._closed])
+        return made_closing([link for link in self._links if link in other.closed])
 
     def __sub__(self, other):
         need_some_closing(other)
-        return made_closing([link for link in self._links if link not in other._closed])
+        return made_closing([link for link in self._links if link not in other.closed])
 
     def __contains__(self, x):
-        return is_link(x) and ordered_pair(x[0], x[1]) in self._closed
+        return is_link(x) and ordered_pair(x[0], x[1]) in self.closed
 
     def __len__(self):
         return len(self._links)
 
     def __eq__(self, other):
-        return isinstance(other, Closing) and self._place == other._place
+        return isinstance(other, Closing) and self.place() == other.place()
 
     def __lt__(self, other):
         if not isinstance(other, Closing):
             return NotImplemented
-        return self._place < other._place
+        return self.place() < other.place()
 
     def __le__(self, other):
         if not isinstance(other, Closing):
             return NotImplemented
-        return self._place <= other._place
+        return self.place() <= other.place()
 
     def __gt__(self, other):
         if not isinstance(other, Closing):
             return NotImplemented
-        return self._place > other._place
+        return self.place() > other.place()
 
     def __ge__(self, other):
         if not isinstance(other, Closing):
             return NotImplemented
-        return self._place >= other._place
+        return self.place() >= other.place()
 
     def __str__(self):
         if len(self._links) == 0:
@@ -95,7 +104,7 @@ class Closing:
         return " ".join([f"{one}-{other}" for one, other in self._links])
 
     def __repr__(self):
-        return f"Closing({self._links!r})"
+        return f"Closing({list(self._links)!r})"
 
 
 def ends_of(links):
@@ -107,20 +116,26 @@ def ends_of(links):
     return {node: tuple(found[node]) for node in found}
 
 
-def need_few(links):
-    """Raise TooMany if there are too many links for a closing."""
+def few_links(links):
+    """These links, if they are not too many for a closing; else TooMany."""
     if len(links) > Net.MOST_LINKS:
         raise TooMany("links", Net.MOST_LINKS)
+    return links
 
 
 def made_closing(links):
-    """The closing of links that surely are right, a sorted list that nobody changes; else (too many) TooMany."""
-    need_few(links)
+    """The closing of links that surely are right and sorted; else (too many) TooMany."""
     made = Closing()
-    made._links = links
-    made._place = (len(links), links)
-    made._closed = {link: True for link in links}
+    made._links = tuple(few_links(links))
     return made
+
+
+def closings_of(lists):
+    """Yield the closings of tuples of links that surely are right, sorted and few."""
+    for links in lists:
+        made = Closing()
+        made._links = links
+        yield made
 
 
 def need_some_closing(closing):
@@ -139,7 +154,7 @@ def open_net(net, closing):
     """The net of all nodes and the open links."""
     need_net(net)
     need_closing(closing, net)
-    return made_net(net.nodes(), [link for link in net.links() if link not in closing._closed])
+    return less_links(net, closing.closed)
 
 
 class Site:

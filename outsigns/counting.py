@@ -2,12 +2,12 @@
 
 from math import factorial
 
-from outsigns.basics import is_count, ordered_pair
+from outsigns.basics import is_count
 from outsigns.blocks import blocks
 from outsigns.checks import need_count
 from outsigns.drawings import block_cycles, blocks_by_node, drawn_rows
 from outsigns.errors import InvalidNumber, NoDrawing
-from outsigns.nets import links_within, need_net
+from outsigns.nets import need_net
 from outsigns.rows import need_rows
 
 
@@ -48,8 +48,9 @@ class Choices:
     def how_many(self):
         """The number of the drawings."""
         found = 1
-        for node in self._blocks_at:
-            found = found * factorial(len(self._blocks_at[node]))
+        for held in self._blocks_at.values():
+            if len(held) > 1:
+                found = found * factorial(len(held))
         for cycle in self._cycles:
             found = found * ways_round(cycle)
         return found
@@ -59,22 +60,21 @@ class Choices:
         directions = [0 for _ in self._cycles]
         for at in range(len(directions) - 1, -1, -1):
             number, directions[at] = divmod(number, ways_round(self._cycles[at]))
-        orders = {}
-        for node in list(self._blocks_at)[::-1]:
-            number, rank = divmod(number, factorial(len(self._blocks_at[node])))
-            orders[node] = order_at(self._blocks_at[node], rank)
+        orders = dict(self._blocks_at)
+        for node in list(orders)[::-1]:
+            if len(orders[node]) > 1:
+                number, rank = divmod(number, factorial(len(orders[node])))
+                orders[node] = order_at(orders[node], rank)
         return drawn_rows(self._net, self._cycles, orders, directions)
 
     def number_by(self, rows):
         """The number of a drawing, by a dict of its rows."""
-        lies_in = {}
-        for at, cycle in enumerate(self._cycles):
-            for link in links_within(self._net.links(), cycle):
-                lies_in[link] = at
         number = 0
-        for node in self._blocks_at:
-            order = order_in_row([lies_in[ordered_pair(node, name)] for name in rows[node]])
-            number = number * factorial(len(order)) + rank_of(order, self._blocks_at[node])
+        for node, held in self._blocks_at.items():
+            if len(held) > 1:
+                lies_in = {name: at for at in held for name in self._cycles[at]}
+                order = list({lies_in[name]: True for name in rows[node]})
+                number = number * factorial(len(held)) + rank_of(order, held)
         for cycle in self._cycles:
             number = number * ways_round(cycle) + direction_in(cycle, rows)
         return number
@@ -85,13 +85,8 @@ def ways_round(cycle):
     return 2 if len(cycle) > 2 else 1
 
 
-def order_in_row(places):
-    """The list of the different ones of some places, in the sequence in which they come first."""
-    return list({at: True for at in places})
-
-
 def direction_in(cycle, rows):
-    """The direction of a block in a drawing, by its cycle and a dict of rows."""
+    """The direction of a block in a drawing, by its cycle and a dict of rows; 0 for two nodes."""
     ahead = [name for name in rows[cycle[0]] if name in cycle]
     return 0 if ahead[0] == cycle[1] else 1
 
@@ -122,7 +117,7 @@ def number_of(rows):
     need_rows(rows)
     if not rows.is_drawing:
         raise NoDrawing()
-    return choices_of(rows.net).number_by(rows.as_dict())
+    return choices_of(rows.net).number_by(rows.table)
 
 
 def drawings(net, first, many):

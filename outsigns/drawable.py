@@ -38,28 +38,39 @@ def can_be_taken_off(near):
     return len(near) == 0
 
 
+def last_that_holds(kept, left, low, high, holds):
+    """The greatest number of links of a list, from its beginning, that can be taken away: low can be, high can not."""
+    while high - low > 1:
+        middle = (low + high) // 2
+        if holds([*kept, *left[middle:]]):
+            low = middle
+        else:
+            high = middle
+    return low
+
+
 def links_kept(links, holds):
     """What stays of a list of links from which one after another is taken away as long as something holds of the rest.
 
-    `holds` tells whether it does, of a list of links; it holds of all these links, and of each list of links that has
-    another one as a part of which it holds.
+    `holds` tells whether it does, of a list of links; it holds of all these links, not of none, and of each list of
+    links that has another one as a part of which it holds.
     """
-    kept = []
-    left = links
+    # The first one that stays: mostly few links behind it are enough, and these are asked about sooner.
+    many = 1
+    while many < len(links) and not holds(links[-many:]):
+        many = 2 * many
+    start = len(links) - many if many < len(links) else 0
+    start = last_that_holds([], links, start, len(links) - many // 2, holds)
+    kept = [links[start]]
+    left = links[start + 1:]
     while len(left) > 0 and not holds(kept):
+        # The next ones: so many may be taken away together, first by longer and longer steps.
         low = 0
         step = 1
-        # So many may be taken away together, and the next one may not: first by longer and longer steps.
         while low + step < len(left) and holds([*kept, *left[low + step:]]):
             low = low + step
             step = 2 * step
-        high = low + step if low + step < len(left) else len(left)
-        while high - low > 1:
-            middle = (low + high) // 2
-            if holds([*kept, *left[middle:]]):
-                low = middle
-            else:
-                high = middle
+        low = last_that_holds(kept, left, low, low + step if low + step < len(left) else len(left), holds)
         kept.append(left[low])
         left = left[low + 1:]
     return kept

@@ -1,15 +1,19 @@
 """Drawings of nets, and which rows have good signs."""
 
 from outsigns.blocks import blocks, cycle_within
+from outsigns.breaks import links_at_break
 from outsigns.closings import made_closing
-from outsigns.darts import is_ring_piece, undrawn_pieces, without_names
+from outsigns.darts import are_good, is_ring_piece, tour_of
+from outsigns.drawable import can_be_drawn
 from outsigns.nets import need_net
 from outsigns.rows import made_rows, need_rows
+from outsigns.sorting import sorted_names
 
 
 def has_drawing(net):
     """Whether a net has a drawing."""
-    return None not in block_cycles(net, blocks(net))
+    need_net(net)
+    return can_be_drawn(net.links())
 
 
 def drawing(net):
@@ -28,75 +32,87 @@ def block_cycles(net, parts):
 
 def blocks_by_node(net, parts):
     """A dict from all nodes to the list of the positions, among the sorted blocks, of those in which they lie."""
-    found = {node: [] for node in net.nodes()}
+    found = {node: [] for node in net.near}
     for at, block in enumerate(parts):
         for node in block:
             found[node].append(at)
     return found
 
 
-def names_behind(cycle, node, direction):
-    """The list of the other nodes of a cycle as they come behind a node, in a direction, 0 or 1."""
-    at = cycle.index(node)
-    found = [*cycle[at + 1:], *cycle[:at]]
-    return found if direction == 0 else found[::-1]
+def names_along(net, cycle):
+    """A dict from the nodes of a block to the lists of their neighbours in it, as its cycle goes on behind them."""
+    if len(cycle) == 2:
+        return {cycle[0]: [cycle[1]], cycle[1]: [cycle[0]]}
+    near = net.near
+    found = {node: [] for node in cycle}
+    ahead = {}
+    for node in cycle:
+        # The neighbours so far stand ahead of the node: they come behind it once more round.
+        ahead[node] = len(found[node])
+        for name in near[node]:
+            if name in found:
+                found[name].append(node)
+    return {node: [*names[ahead[node]:], *names[:ahead[node]]] for node, names in found.items()}
 
 
 def drawn_rows(net, cycles, orders, directions):
     """The drawing by the cycles and directions of all blocks, and a dict from nodes to the orders of their blocks."""
+    along = [names_along(net, cycle) for cycle in cycles]
     rows = {}
-    for node in net.nodes():
-        near = net.neighbours(node)
+    for node in net.near:
         row = []
         for at in orders[node]:
-            row.extend([name for name in names_behind(cycles[at], node, directions[at]) if name in near])
+            row.extend(along[at][node] if directions[at] == 0 else along[at][node][::-1])
         rows[node] = tuple(row)
     return made_rows(net, rows)
-
-
-def are_good(rows):
-    """Whether signs are good, by a dict of their rows."""
-    return all([is_ring_piece(rows, piece) for piece in undrawn_pieces(rows)])
 
 
 def is_good_rows(rows):
     """Whether the signs of rows are good."""
     need_rows(rows)
-    return are_good(rows.as_dict())
+    return are_good(rows.table)
+
+
+def closing_at_break(rows, kept):
+    """The closing of all links of the net of rows but some."""
+    left = {link: True for link in kept}
+    return made_closing([link for link in rows.net.links() if link not in left])
 
 
 def least_break(rows):
     """The least break of rows, or None if they are good."""
     need_rows(rows)
-    left = rows.as_dict()
-    if are_good(left):
-        return None
-    closed = []
-    for one, other in rows.net.links():
-        less = without_names(left, {one: (other,), other: (one,)})
-        if not are_good(less):
-            left = less
-            closed.append((one, other))
-    return made_closing(closed)
+    kept = links_at_break(rows.table, rows.net.links())
+    return None if kept is None else closing_at_break(rows, kept)
+
+
+def rows_with(rows, links):
+    """The rows of the nodes of some links, without what other links lead to, by a dict of all rows."""
+    near = {}
+    for one, other in links:
+        near.setdefault(one, {})[other] = True
+        near.setdefault(other, {})[one] = True
+    return {node: [name for name in rows[node] if name in near[node]] for node in near}
 
 
 def rows_fault(rows):
     """The fault of the walk by rows at the least break with the first start that misses a node, or None."""
-    closing = least_break(rows)
-    if closing is None:
+    need_rows(rows)
+    kept = links_at_break(rows.table, rows.net.links())
+    if kept is None:
         return None
-    left = rows.opened(closing)
-    for start in left.net.nodes():
+    # All links that are open are in one piece; other nodes are alone.
+    left = rows_with(rows.table, kept)
+    piece = sorted_names(list(left))
+    for start in piece:
         # Who starts at a node goes round by its tour, and comes back.
-        seen = left.tour(start)
-        wrong = [node for node in left.net.piece_of(start) if node not in seen]
-        if len(wrong) > 0:
-            return (closing, start, wrong)
+        seen = {node: True for node in tour_of(left, start)}
+        if len(seen) < len(piece):
+            return (closing_at_break(rows, kept), start, [node for node in piece if node not in seen])
     return None
 
 
 def ring_pieces(net):
     """The sorted list of the pieces that are rings."""
     need_net(net)
-    near = {node: net.neighbours(node) for node in net.nodes()}
-    return [piece for piece in net.pieces() if is_ring_piece(near, piece)]
+    return [piece for piece in net.pieces() if is_ring_piece(net.near, piece)]

@@ -2,13 +2,14 @@
 
 from outsigns.basics import ordered_pair
 from outsigns.checks import is_choice
-from outsigns.closings import made_closing
+from outsigns.closings import closings_of, made_closing
+from outsigns.darts import are_good
 from outsigns.errors import InvalidNeighbours
 from outsigns.nets import need_net, need_node
-from outsigns.search import Search, need_few_links
+from outsigns.search import Search, any_of, need_few_links
 from outsigns.signs import names_left, need_signs
-from outsigns.sorting import parts_of_size
-from outsigns.walking import misses_at
+from outsigns.sorting import parts_in_order
+from outsigns.walking import is_good_at, misses_at
 
 
 def need_search(signs):
@@ -17,31 +18,55 @@ def need_search(signs):
     need_few_links(signs.net)
 
 
+def are_good_by_rows(signs):
+    """Whether signs surely are good, as those of rows that are good."""
+    rows = signs.rows_alone()
+    return rows is not None and are_good(rows)
+
+
 def all_closings(net):
     """Yield all closings of links of a net, in order."""
     need_net(net)
     need_few_links(net)
-    links = net.links()
-    for many in range(len(links) + 1):
-        for part in parts_of_size(links, many):
-            yield made_closing(list(part))
+    parts = parts_in_order(net.links())
+    yield from closings_of(parts)
+
+
+def early_parts(net):
+    """The list of the sets of at most one link, in order, as tuples.
+
+    Most signs that are not good have a fault at one of these, which is found sooner than all together.
+    """
+    return [(), *[(link,) for link in net.links()]]
 
 
 def faults(signs):
     """Yield all faults of signs, in order."""
     need_search(signs)
+    # The first ones sooner than all the others together.
+    for start, nodes in misses_at(signs, made_closing(())):
+        yield (made_closing(()), start, nodes)
     search = Search(signs)
-    for many in range(signs.net.size + 1):
-        for closed in search.sets_of_links(many):
-            wrong = search.misses_behind(closed)
-            if len(wrong) > 0:
-                closing = search.closing_of(closed)
-                for start, nodes in wrong:
-                    yield (closing, start, nodes)
+    missed = search.missed()
+    at_all = {start: any_of([held for _, held in missed[start]]) for start in missed}
+    numbers, parts = search.later_in_order(any_of(list(at_all.values())))
+    marked = {start: search.marks(at_all[start]) for start in missed}
+    marks = {start: [(node, search.marks(held)) for node, held in missed[start]] for start in missed}
+    for number, closing in zip(numbers, list(closings_of(parts))):
+        for start in missed:
+            if marked[start][number] == "1":
+                yield (closing, start, [node for node, text in marks[start] if text[number] == "1"])
 
 
 def first_fault(signs):
     """The first fault of signs, or None."""
+    need_search(signs)
+    if are_good_by_rows(signs):
+        return None
+    parts = early_parts(signs.net)
+    for early in closings_of(parts):
+        for start, nodes in misses_at(signs, early):
+            return (early, start, nodes)
     for fault in faults(signs):
         return fault
     return None
@@ -49,7 +74,18 @@ def first_fault(signs):
 
 def is_good(signs):
     """Whether signs are good at each closing."""
-    return first_fault(signs) is None
+    need_search(signs)
+    if signs.rows_alone() is not None:
+        return are_good(signs.rows_alone())
+    parts = early_parts(signs.net)
+    for early in closings_of(parts):
+        if not is_good_at(signs, early):
+            return False
+    search = Search(signs)
+    for goal in signs.net.nodes():
+        if not search.does_serve(goal):
+            return False
+    return True
 
 
 def fewest_closed(signs):
@@ -59,41 +95,12 @@ def fewest_closed(signs):
     return None if fault is None else len(fault[0])
 
 
-def arrivals(goings):
-    """A dict with the tuples (node, neighbour) of the arrivals of all walks."""
-    seen = {}
-    for start in goings:
-        arriving = start
-        here = goings[start][None]
-        while here is not None and (here, arriving) not in seen:
-            seen[(here, arriving)] = True
-            going = goings[here][arriving]
-            arriving = here
-            here = going
-    return seen
-
-
-def used_entries(signs, search):
-    """A dict with the tuples (node, its closed links, arriving) that a walk asks at some closing, arriving not None."""
-    used = {}
-    for many in range(signs.net.size + 1):
-        for closed in search.sets_of_links(many):
-            for node, arriving in arrivals(search.goings_behind(closed)):
-                used[(node, search.closed_at(node, closed), arriving)] = True
-    return used
-
-
 def unused(signs):
     """The list of the tuples (node, closed, arriving) of the entries that no walk asks."""
     need_search(signs)
     search = Search(signs)
-    used = used_entries(signs, search)
-    found = []
-    for node in signs.net.nodes():
-        for closed, arriving, _ in signs.entries(node):
-            if arriving is not None and (node, search.set_of_links(node, closed), arriving) not in used:
-                found.append((node, closed, arriving))
-    return found
+    arrivals = search.arrivals()
+    return [(node, closed, name) for node in signs.net.nodes() for closed, name in search.unused_at(node, arrivals)]
 
 
 def not_turning(signs):

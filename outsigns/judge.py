@@ -61,7 +61,7 @@ def knot_paper(net):
 
 def undrawn_rings(rows):
     """The sorted list of the least nodes of the pieces whose rows are no drawing; all are rings if rows are good."""
-    return [piece[0] for piece in undrawn_pieces(rows.as_dict())]
+    return [piece[0] for piece in undrawn_pieces(rows.table)]
 
 
 def broken_paper(signs):

@@ -85,8 +85,8 @@ class Net:
         need_room(nodes, kept)
         self._nodes = sorted_names(nodes)
         self._links = kept
-        self._held = {link: True for link in kept}
-        self._near = neighbour_table(self._nodes, kept)
+        self._held = None
+        self._near = None
 
     @staticmethod
     def of(*links):
@@ -132,22 +132,38 @@ class Net:
         """The number of links."""
         return len(self._links)
 
+    @property
+    def held(self):
+        """A dict with the links, which nobody changes."""
+        if self._held is None:
+            self._held = {link: True for link in self._links}
+        return self._held
+
+    @property
+    def near(self):
+        """A dict, which nobody changes, from the nodes to the sorted lists of their neighbours."""
+        if self._near is None:
+            self._near = neighbour_table(self._nodes, self._links)
+        return self._near
+
     def __len__(self):
         return len(self._nodes)
 
     def neighbours(self, node):
         """The sorted list of the neighbours of a node."""
-        need_node(self, node)
-        return list(self._near[node])
+        near = self.near
+        if not isinstance(node, str) or node not in near:
+            raise UnknownNode(node)
+        return list(near[node])
 
     def pieces(self):
         """The sorted list of the pieces, each a sorted list."""
-        return pieces_of(self._near)
+        return pieces_of(self.near)
 
     def piece_of(self, node):
         """The sorted list of the nodes of the piece of a node."""
         need_node(self, node)
-        return joined_to(self._near, node)
+        return joined_to(self.near, node)
 
     def without(self, *nodes):
         """The net without these nodes and their links."""
@@ -185,42 +201,44 @@ class Net:
         return made_net(sorted_names(listed), sorted_links(links))
 
     def __add__(self, other):
-        if not is_link_of(other, self._near):
+        if not is_link_of(other, self.near):
             raise InvalidLink(other)
         link = ordered_pair(other[0], other[1])
-        if link in self._held:
+        if link in self.held:
             raise LinkTaken(other)
         return made_net(self._nodes, sorted_links([*self._links, link]))
 
     def __sub__(self, other):
         need_link(self, other)
-        gone = ordered_pair(other[0], other[1])
-        return made_net(self._nodes, [link for link in self._links if link != gone])
+        return less_links(self, {ordered_pair(other[0], other[1]): True})
 
     def __or__(self, other):
         need_net(other)
-        nodes = [node for node in other._nodes if node not in self._near]
-        links = [link for link in other._links if link not in self._held]
+        nodes = [node for node in other._nodes if node not in self.near]
+        links = [link for link in other._links if link not in self.held]
         return made_net(sorted_names([*self._nodes, *nodes]), sorted_links([*self._links, *links]))
 
     def __and__(self, other):
         need_net(other)
-        nodes = [node for node in self._nodes if node in other._near]
+        nodes = [node for node in self._nodes if node in other.near]
         if len(nodes) == 0:
             raise NobodyLeft()
-        return made_net(nodes, [link for link in self._links if link in other._held])
+        return made_net(nodes, [link for link in self._links if link in other.held])
 
     def is_part_of(self, other):
         """Whether another net has all nodes and links of this one."""
         need_net(other)
-        if not all([node in other._near for node in self._nodes]):
+        if not all([node in other.near for node in self._nodes]):
             return False
-        return all([link in other._held for link in self._links])
+        return all([link in other.held for link in self._links])
 
     def __contains__(self, x):
-        if isinstance(x, tuple):
-            return is_link_of(x, self._near) and ordered_pair(x[0], x[1]) in self._held
-        return isinstance(x, str) and x in self._near
+        if isinstance(x, str):
+            return x in self.near
+        if not isinstance(x, tuple) or len(x) != 2:
+            return False
+        one, other = x
+        return isinstance(one, str) and isinstance(other, str) and ordered_pair(one, other) in self.held
 
     def __eq__(self, other):
         return isinstance(other, Net) and self._nodes == other._nodes and self._links == other._links
@@ -236,9 +254,12 @@ def made_net(nodes, links):
     made = Net(("a",))
     made._nodes = nodes
     made._links = links
-    made._held = {link: True for link in links}
-    made._near = neighbour_table(nodes, links)
     return made
+
+
+def less_links(net, gone):
+    """A net without those links, each as it is returned, that a dict has."""
+    return made_net(net._nodes, [link for link in net._links if link not in gone])
 
 
 def need_net(net):
@@ -249,7 +270,7 @@ def need_net(net):
 
 def is_node(net, value):
     """Whether a value is a node of a net."""
-    return isinstance(value, str) and value in net._near
+    return isinstance(value, str) and value in net.near
 
 
 def need_node(net, node):
@@ -266,11 +287,11 @@ def need_link(net, link):
 
 def has_links(net, links):
     """Whether a net has all of these links, each as it is returned."""
-    return all([link in net._held for link in links])
+    return all([link in net.held for link in links])
 
 
 def need_links(net, links):
     """Raise UnknownLink with the first of these links, each as it is returned, that a net does not have."""
     for link in links:
-        if link not in net._held:
+        if link not in net.held:
             raise UnknownLink(link)

@@ -10,15 +10,22 @@ def is_row(value, neighbours):
     return is_choice(value, neighbours) and len(value) == len(neighbours)
 
 
+def plain_rows(net):
+    """A dict from all nodes of a net to their plain rows."""
+    return {node: tuple(row) for node, row in net.near.items()}
+
+
 def rows_by_node(net, rows):
     """A dict from all nodes of a net to their rows, the plain ones where rows has none; else InvalidRow."""
-    if rows is not None and not isinstance(rows, dict):
+    if rows is None:
+        return plain_rows(net)
+    if not isinstance(rows, dict):
         raise InvalidRow(None)
-    given = {} if rows is None else rows
-    for node in given:
+    for node in rows:
         if not is_node(net, node):
             raise InvalidRow(None)
-    for node in net.nodes():
-        if node in given and not is_row(given[node], net.neighbours(node)):
+    near = net.near
+    for node in near:
+        if node in rows and not is_row(rows[node], near[node]):
             raise InvalidRow(node)
-    return {node: tuple(given.get(node, net.neighbours(node))) for node in net.nodes()}
+    return {node: tuple(rows.get(node, row)) for node, row in near.items()}

@@ -9,9 +9,8 @@ def sorted_names(names):
 
 
 def sorted_links(links):
-    """The sorted list of some links, each of which has the lesser name first."""
-    # A quote sorts ahead of every letter, so the texts of tuples of two names sort as the tuples do.
-    return sorted(links, key=str)
+    """The sorted list of some different links, each of which has the lesser name first."""
+    return sorted_lists(links)
 
 
 def parts_of_size(items, many):
@@ -25,7 +24,14 @@ def parts_in_order(items):
 
 
 def sorted_lists(lists):
-    """The sorted list of some different lists of names."""
+    """The sorted list of some different lists, or tuples, of names."""
     # A space sorts ahead of every letter, so these texts sort as the lists do.
     held = {" ".join(names): names for names in lists}
+    return [held[text] for text in sorted_names(list(held))]
+
+
+def sorted_parts(parts):
+    """The list of some different tuples of names, shorter ones first, then in order of their names."""
+    # A digit, since there are fewer than ten names.
+    held = {f"{len(part)} {' '.join(part)}": part for part in parts}
     return [held[text] for text in sorted_names(list(held))]

@@ -71,13 +71,4 @@ def longest(signs):
     need_few_links(signs.net)
     if not is_good(signs):
         return None
-    search = Search(signs)
-    best = None
-    for many in range(signs.net.size + 1):
-        for closed in search.sets_of_links(many):
-            goings = search.goings_behind(closed)
-            for start in signs.net.nodes():
-                steps = most_steps(goings, start)
-                if best is None or steps > best[0]:
-                    best = (steps, closed, start)
-    return (best[0], search.closing_of(best[1]), best[2])
+    return Search(signs).longest()

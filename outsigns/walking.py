@@ -11,8 +11,8 @@ from outsigns.sorting import sorted_names
 def next_node(signs, closing, node, arriving):
     """Where one goes on at a node, a name or None."""
     need_walk(signs, closing, node)
-    goings = signs.goings_by_closed(node)[tuple(closing.at(node))]
-    need_open(arriving, goings)
+    goings = signs.goings(node, tuple(closing.at(node)))
+    need_open(arriving, goings, ())
     return goings[arriving]
 
 

@@ -146,7 +146,7 @@ class LanguageTest(unittest.TestCase):
                         continue
                     self.assertIsInstance(node.args[0], ast.ListComp)
                     plain = node.args[0].elt
-                    self.assertTrue(isinstance(plain, ast.JoinedStr) or plain.func.id == "str")
+                    self.assertTrue(isinstance(plain, ast.JoinedStr) or plain.func.id in ("str", "int"))
 
     def test_generators_are_iterated_at_once(self):
         generators = []
@@ -156,8 +156,9 @@ class LanguageTest(unittest.TestCase):
         self.assertIn("entries", generators)
         for _, _, tree in self.each():
             at_once = [node.iter for node in ast.walk(tree) if isinstance(node, (ast.For, ast.comprehension))]
+            at_once += [node.value for node in ast.walk(tree) if isinstance(node, ast.YieldFrom)]
             at_once += [node.args[0] for node in ast.walk(tree) if isinstance(node, ast.Call) and node.args
-                        and getattr(node.func, "id", "") in ("list", "tuple", "dict")]
+                        and getattr(node.func, "id", "") in ("list", "tuple", "dict", "enumerate")]
             for node in ast.walk(tree):
                 if isinstance(node, ast.Call):
                     name = getattr(node.func, "id", getattr(node.func, "attr", ""))

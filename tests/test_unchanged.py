@@ -50,6 +50,17 @@ def changed_names(function):
     return found
 
 
+def is_kept_answer(function):
+    """Whether a property only keeps what it worked out: if it is None it is assigned, and it is returned (rule L5)."""
+    rows = function.body[1:]
+    if len(rows) != 2 or not isinstance(rows[0], ast.If) or not isinstance(rows[1], ast.Return):
+        return False
+    marks = [getattr(mark, "id", "") for mark in function.decorator_list]
+    name = ast.unparse(rows[1].value)
+    return (marks == ["property"] and ast.unparse(rows[0].test) == f"{name} is None" and len(rows[0].body) == 1
+            and not rows[0].orelse and ast.unparse(rows[0].body[0].targets[0]) == name)
+
+
 class UnchangedTest(unittest.TestCase):
     def setUp(self):
         self.held, self.roots = {}, []
@@ -69,6 +80,15 @@ class UnchangedTest(unittest.TestCase):
                  if isinstance(node, ast.Call)]
         return [found for name in names for found in self.held.get(name, [])]
 
+    def test_kept_answers_are_read_by_their_property_alone(self):
+        kept = [ast.unparse(function.body[-1].value) for functions in self.held.values() for function in functions
+                if is_kept_answer(function)]
+        self.assertEqual(sorted(kept), ["self._closed", "self._held", "self._near", "self._plain"])
+        for name in kept:
+            found = [ast.unparse(node) for file in files() for node in ast.walk(ast.parse(text_of(file)))
+                     if isinstance(node, ast.Attribute) and node.attr == name.partition(".")[2]]
+            self.assertEqual(found, [name] * 4)
+
     def test_all_that_they_call(self):
         waiting, reached = list(self.roots), []
         while waiting:
@@ -78,7 +98,7 @@ class UnchangedTest(unittest.TestCase):
                 waiting.extend(self.called(function))
         self.assertGreater(len(reached), 40)
         for function in reached:
-            let = made_here(function) + (["self"] if function.name == "__init__" else [])
+            let = made_here(function) + (["self"] if function.name == "__init__" or is_kept_answer(function) else [])
             self.assertLessEqual(set(changed_names(function)), set(let), function.name)
 
 
