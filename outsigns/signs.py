@@ -92,11 +92,10 @@ class Signs:
     def goings_at(self, closed):
         """A dict from all nodes to their goings, by a dict of closed neighbours; only the signs change them."""
         found = {}
-        for node in self._asked:
+        for node in self._row_of:
             key = closed.get(node, ())
-            found[node] = self._asked[node].get(key)
-            if found[node] is None:
-                found[node] = self.goings(node, key)
+            goings = self._asked[node].get(key)
+            found[node] = self.goings(node, key) if goings is None else goings
         return found
 
     def row_at(self, node):

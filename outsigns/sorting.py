@@ -13,11 +13,6 @@ def sorted_links(links):
     return sorted_lists(links)
 
 
-def parts_of_size(items, many):
-    """All tuples of so many of these different items, in order of their positions."""
-    return list(combinations(items, many))
-
-
 def parts_in_order(items):
     """All tuples of some of these different items: shorter ones first, then in order of the positions."""
     return [part for many in range(len(items) + 1) for part in combinations(items, many)]

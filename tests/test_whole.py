@@ -14,7 +14,7 @@ from outsigns.closings import Closing, Site, open_net
 from outsigns.counting import count_drawings, drawing_at, number_of
 from outsigns.drawings import drawing, has_drawing, is_good_rows, least_break, rows_fault
 from outsigns.errors import HasDrawing
-from outsigns.faults import first_fault, is_good, not_turning, star_fault, unused
+from outsigns.faults import faults, first_fault, is_good, not_turning, star_fault, unused
 from outsigns.goals import first_loss
 from outsigns.joining import can_be_joined, joinable, way_of_blocks
 from outsigns.judge import answer, certificate_of, is_certificate
@@ -185,7 +185,7 @@ class OneOrTheOtherTest(unittest.TestCase):
         for seed in range(60):
             net = drawn_net(Chance(seed), 8)
             rows = drawn_rows(Chance(seed), net)
-            self.assertIs(is_good_rows(rows), is_good(rows.signs()))
+            self.assertIs(is_good_rows(rows), list(faults(rows.signs())) == [])
 
 
 if __name__ == "__main__":
