@@ -5,11 +5,12 @@ from outsigns.checks import is_choice
 from outsigns.closings import closings_of, made_closing
 from outsigns.darts import are_good
 from outsigns.errors import InvalidNeighbours
+from outsigns.meeting import are_all_met, bits_met, bits_of
 from outsigns.nets import need_net, need_node
 from outsigns.search import Search, any_of, need_few_links
 from outsigns.signs import names_left, need_signs
 from outsigns.sorting import parts_in_order
-from outsigns.walking import is_good_at, misses_at
+from outsigns.walking import misses_at
 
 
 def need_search(signs):
@@ -72,15 +73,24 @@ def first_fault(signs):
     return None
 
 
+def is_good_early(signs):
+    """Whether signs are good at all closings of at most one link."""
+    links = signs.net.links()
+    bits = bits_of(signs.net.nodes())
+    for closed in [{}, *[{one: (other,), other: (one,)} for one, other in links]]:
+        goings = signs.goings_at(closed)
+        if not are_all_met(goings, links, bits_met(goings, bits)):
+            return False
+    return True
+
+
 def is_good(signs):
     """Whether signs are good at each closing."""
     need_search(signs)
     if signs.rows_alone() is not None:
         return are_good(signs.rows_alone())
-    parts = early_parts(signs.net)
-    for early in closings_of(parts):
-        if not is_good_at(signs, early):
-            return False
+    if not is_good_early(signs):
+        return False
     search = Search(signs)
     for goal in signs.net.nodes():
         if not search.does_serve(goal):

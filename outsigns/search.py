@@ -1,6 +1,7 @@
 """Walks by signs at all closings of a net with few links, all of them at once."""
 
 from outsigns.closings import made_closing
+from outsigns.darts import piece_from
 from outsigns.errors import TooMany
 from outsigns.sorting import parts_in_order
 
@@ -81,45 +82,46 @@ class Search:
             found = self._firsts[node] if arriving is None else self._ways[self._places[(node, arriving)]]
             found.extend([(self._places[(name, node)], here) for name, here in held[arriving].items()])
 
-    def piece_of(self, node):
-        """The list of the nodes of the piece of a node, which comes first, then its neighbours, then theirs."""
-        found = [node]
-        seen = {node: True}
-        at = 0
-        while at < len(found):
-            fresh = [name for name in self._beside[found[at]] if name not in seen]
-            for name in fresh:
-                seen[name] = True
-            found.extend(fresh)
-            at = at + 1
-        return found
-
     def joined_to(self, goal):
         """A dict from the nodes of the piece of a goal to the closings at which they are joined to it."""
-        piece = self.piece_of(goal)
-        found = {node: 0 for node in piece}
+        found = {node: 0 for node in piece_from(self._beside, goal)}
         found[goal] = self._every
         before = None
         while found != before:
             before = dict(found)
-            for node in piece:
+            for node in before:
                 for name in self._beside[node]:
                     found[name] = found[name] | found[node] & self._free[(node, name)]
         return found
 
+    def arrivals_around(self, piece):
+        """The list of the arrivals at all nodes of a piece but its first one, from which the others are seen.
+
+        Those from nodes farther off come first, nearer ones ahead of farther ones, then the others the opposite way: so
+        most of them come behind those to which one goes on.
+        """
+        rank = {node: at for at, node in enumerate(piece)}
+        darts = [(node, name) for node in piece[1:] for name in self._beside[node]]
+        home = [self._places[(node, name)] for node, name in darts if rank[name] > rank[node]]
+        away = [self._places[(node, name)] for node, name in darts if rank[name] < rank[node]]
+        return [*home, *away[::-1]]
+
     def meeting(self, goal):
         """A dict from the nodes of the piece of a goal to the closings at which the walks from them meet it."""
-        piece = self.piece_of(goal)
+        piece = piece_from(self._beside, goal)
         found = [0 for _ in self._ways]
         for name in self._beside[goal]:
             found[self._places[(goal, name)]] = self._every
-        others = [self._places[(node, name)] for node in piece[1:] for name in self._beside[node]]
+        around = [(place, self._ways[place]) for place in self.arrivals_around(piece)]
         before = None
         # What holds of the next arrival holds of this one: again and again, until nothing is added.
         while found != before:
             before = list(found)
-            for place in others:
-                found[place] = any_of([found[to] & way for to, way in self._ways[place]])
+            for place, ways in around:
+                held = 0
+                for to, way in ways:
+                    held = held | found[to] & way
+                found[place] = held
         met = {node: any_of([found[to] & way for to, way in self._firsts[node]]) for node in piece}
         return {**met, goal: self._every}
 

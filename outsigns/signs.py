@@ -124,9 +124,11 @@ class Signs:
         """Yield all entries of a node as tuples (closed, arriving, going)."""
         need_node(self._net, node)
         near = self._net.near[node]
+        arrivals = [None, *near]
+        asked = self._asked[node]
         for closed in parts_in_order(near):
-            goings = self.goings(node, closed)
-            for arriving in [None, *near]:
+            goings = asked[closed] if closed in asked else self.goings(node, closed)
+            for arriving in arrivals:
                 if arriving in goings:
                     yield (closed, arriving, goings[arriving])
 
@@ -158,9 +160,9 @@ class Signs:
         return {closed: dict(self._asked[node][closed]) for closed in self._own[node]}
 
     def sets_to_compare(self, other, node):
-        """The list of the sets of closed neighbours of a node, in order, where other signs may tell something else."""
+        """The list of the sets of closed neighbours of a node where other signs may tell something else."""
         if self._row_of[node] == other._row_of[node]:
-            return sorted_parts(list({**self._own[node], **other._own[node]}))
+            return list({**self._own[node], **other._own[node]})
         return parts_in_order(self._net.near[node])
 
     def differences(self, other):
@@ -170,7 +172,7 @@ class Signs:
             raise OtherNet(self._net, other._net)
         found = []
         for node in self._row_of:
-            for closed in self.sets_to_compare(other, node):
+            for closed in sorted_parts(self.sets_to_compare(other, node)):
                 ours = goings_now(self, node, closed)
                 theirs = goings_now(other, node, closed)
                 if ours != theirs:

@@ -75,6 +75,26 @@ class LanguageTest(unittest.TestCase):
                 if isinstance(node, ast.Compare) and any(isinstance(sign, (ast.Is, ast.IsNot)) for sign in node.ops):
                     self.assertTrue(all(isinstance(part, ast.Constant) for part in node.comparators))
 
+    def test_handlers_name_own_errors(self):
+        own = [node.name for node in ast.parse(text_of("errors.py")).body if isinstance(node, ast.ClassDef)]
+        seen = 0
+        for _, _, tree in self.each():
+            for node in ast.walk(tree):
+                if isinstance(node, ast.ExceptHandler):
+                    seen += 1
+                    named = node.type.elts if isinstance(node.type, ast.Tuple) else [node.type]
+                    self.assertLessEqual({part.id for part in named}, set(own))
+        self.assertEqual(seen, 2)
+
+    def test_no_files_import_from_each_other(self):
+        below = {name: [node.module.partition(".")[2] + ".py" for node in tree.body if isinstance(node, ast.ImportFrom)
+                        and node.module.startswith("outsigns.")] for name, _, tree in self.each()}
+        left = dict(below)
+        while left:
+            free = [name for name in left if not any(other in left for other in left[name])]
+            self.assertNotEqual(free, [])
+            left = {name: others for name, others in left.items() if name not in free}
+
     def test_module_level(self):
         for _, _, tree in self.each():
             kinds = (ast.ImportFrom, ast.FunctionDef, ast.ClassDef, ast.Assign, ast.Expr)
