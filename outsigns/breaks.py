@@ -84,7 +84,7 @@ class OpenRows:
                 nodes.append(node)
             dart = behind[dart] ^ 1
         if corners < len(nodes):
-            return len(nodes) < 3 or any([self._many[node] != 2 for node in nodes])
+            return any([self._many[node] != 2 for node in nodes])
         return self.is_wrong_inside(nodes)
 
     def is_wrong_inside(self, nodes):

@@ -209,7 +209,9 @@ class ErrorsTest(Refusals):
                  "walk r a -", "walk r a ab", "walk r a A-b", "walk r a a-b,", "walk r a-b", "walk r a abcdefghi-b",
                  "show", "show kite r", "net kite a a", "net kite a b a", "net abcdefghi a", "net kite abcdefghi",
                  "net kite A", "net k1 a", "net kite a-b", "good R", "row r b a-c", "undo\n", "draw r kite\n",
-                 "\nundo", "net kite\na", "walk r a b-a c", "walk r a a b", "done", "log", "walk r a b--a"]
+                 "\nundo", "net kite\na", "walk r a b-a c", "walk r a a b", "done", "log", "walk r a b--a",
+                 "walk R a", "walk abcdefghi a", "walk r- a", "walk r A", "draw R kite", "draw r Kite", "draw r1 kite",
+                 "draw r abcdefghi", "draw abcdefghi kite", "drawn Kite", "count k-", "show abcdefghi", "link K a b"]
         for command in right:
             for value in (command + " ", " " + command, command.replace(" ", "  ", 1) + ("  " if command == "undo" else ""),
                           command.upper(), command + "\n", command.replace(" ", "\n", 1) + "\n"):

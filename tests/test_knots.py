@@ -110,6 +110,7 @@ class IsKnotTest(Refusals):
             self.assertIs(is_knot(net, value), False)
         for value in NOT_NETS:
             self.refused(InvalidNet, {"value": value}, lambda: is_knot(value, parts))
+            self.refused(InvalidNet, {"value": value}, lambda: is_knot(value, None))
 
 
 def plain_reduction(net):
