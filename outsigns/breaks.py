@@ -109,51 +109,26 @@ class OpenRows:
         return missing > 0
 
 
-def last_start(open_rows, many):
-    """The last position of so many links such that these and those behind it are bad; so are all of them.
-
-    All of them are open; those ahead of the position are closed behind this.
-    """
-    open_rows.close(0, many)
-    low = high = many
-    step = 1
-    # Mostly few links are enough, and these are asked about sooner.
-    while low == many or not open_rows.is_bad():
-        high = low
-        low = many - step if step < many else 0
-        open_rows.open_again(low, high)
-        step = 2 * step
-    while high - low > 1:
-        middle = (low + high) // 2
-        open_rows.close(low, middle)
-        if open_rows.is_bad():
-            low = middle
-        else:
-            open_rows.open_again(low, middle)
-            high = middle
-    return low
-
-
 def links_at_break(rows, links):
     """The links that are open at the least break of rows, by a dict of them and the sorted links; None if good."""
     open_rows = OpenRows(rows, links)
     if not open_rows.is_bad():
         return None
-    # Without the first link that stays all is good: what is wrong is in its piece.
-    first = last_start(open_rows, len(links))
-    kept = [links[first]]
-    at = first + 1
+    kept = []
+    at = 0
     step = 1
+    # Longer and longer runs of links are closed together as long as the rows are bad without them.
     while at < len(links):
         behind = at + step if at + step < len(links) else len(links)
         open_rows.close(at, behind)
-        if open_rows.is_bad_at(first):
+        # Without the first link that stays all is good: what is wrong is in its piece.
+        if open_rows.is_bad() if len(kept) == 0 else open_rows.is_bad_at(kept[0]):
             at = behind
             step = 2 * step
             continue
         open_rows.open_again(at, behind)
+        step = (behind - at + 1) // 2
         if behind == at + 1:
-            kept.append(links[at])
+            kept.append(at)
             at = behind
-        step = (step + 1) // 2
-    return kept
+    return [links[position] for position in kept]
